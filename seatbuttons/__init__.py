@@ -1,0 +1,1 @@
+"""Seatbuttons: things on places, and buttons that turn them about."""

@@ -1,0 +1,76 @@
+"""Questions about arguments that may be anything, and checks that raise the error which is told.
+
+Every part of a value is asked for its kind before it is compared or put into a set: parts may be
+values that cannot be compared or put into sets.
+"""
+
+from seatbuttons.errors import InvalidKind, InvalidNumber, InvalidTurn, OtherSize
+from seatbuttons.limits import MOST_PLACES
+
+
+def is_integer(given, least, most):
+    """Whether it is an integer from `least` to `most`; True and False are none."""
+    return isinstance(given, int) and not isinstance(given, bool) and least <= given <= most
+
+
+def are_unlike_places(places, size):
+    """Whether these are all places of a board of this size, none of them twice."""
+    seen = set()
+    for place in places:
+        if not is_integer(place, 0, size - 1) or place in seen:
+            return False
+        seen.add(place)
+    return True
+
+
+def is_turn(given):
+    """Whether it is a turn of any number of places."""
+    if not isinstance(given, tuple) or not 1 <= len(given) <= MOST_PLACES:
+        return False
+    return are_unlike_places(given, len(given))
+
+
+def are_rings(given, size):
+    """Whether it is a tuple of tuples, none of them empty, of places, none of them twice."""
+    if not isinstance(given, tuple):
+        return False
+    places = []
+    for ring in given:
+        if not isinstance(ring, tuple) or len(ring) == 0:
+            return False
+        places.extend(ring)
+    return are_unlike_places(places, size)
+
+
+def is_kind(given):
+    """Whether it is a kind of any size."""
+    if not isinstance(given, tuple) or not 1 <= len(given) <= MOST_PLACES:
+        return False
+    most = MOST_PLACES
+    for length in given:
+        if not is_integer(length, 1, most):
+            return False
+        most = length
+    return sum(given) <= MOST_PLACES
+
+
+def check_number(given, least, most):
+    if not is_integer(given, least, most):
+        raise InvalidNumber(given)
+
+
+def check_turn(given):
+    if not is_turn(given):
+        raise InvalidTurn(given)
+
+
+def check_two_turns(one, other):
+    check_turn(one)
+    check_turn(other)
+    if len(one) != len(other):
+        raise OtherSize()
+
+
+def check_kind(given):
+    if not is_kind(given):
+        raise InvalidKind(given)

@@ -1,0 +1,11 @@
+"""The numbers up to which things are allowed or gone through."""
+
+MOST_PLACES = 24
+MOST_BUTTONS = 8
+MOST_PRESSES = 2000
+MOST_TIMES = 10 ** 30
+MOST_MAKING = 20000
+MOST_TURNS = 20000
+MOST_REACHED = 50000
+MOST_SHOWN = 5000
+MOST_LOOKS = 12

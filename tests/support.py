@@ -1,0 +1,134 @@
+"""What several tests need: wrong values, all turns of a few places, and a check of raised errors."""
+
+import inspect
+import itertools
+import unittest
+
+
+class Stubborn:
+    """An object that can neither be compared nor put into a set."""
+
+    __hash__ = None
+
+    def __eq__(self, other):
+        raise AssertionError("was compared")
+
+    def __lt__(self, other):
+        raise AssertionError("was compared")
+
+    def __gt__(self, other):
+        raise AssertionError("was compared")
+
+
+class Agreeing:
+    """An object that says that it equals everything and can be used as an index."""
+
+    def __eq__(self, other):
+        return True
+
+    def __hash__(self):
+        return 0
+
+    def __index__(self):
+        return 0
+
+
+NO_VALUES = [None, True, False, "", "a", "0", b"", b"a", [], {}, set(), frozenset(), object, object(), len]
+NO_VALUES += [Stubborn(), Agreeing(), ..., range(3), iter(())]
+
+# None of these is a place of any board.
+NO_PLACES = NO_VALUES + [(), (0,), ((0,),), -1, 24, 25, 10 ** 30, -10 ** 30]
+
+NO_INTEGERS = NO_VALUES + [(), (1,), ((1,),)]
+
+
+def nested(depth):
+    """Tuples nested in tuples."""
+    value = ()
+    for _ in range(depth - 1):
+        value = (value,)
+    return value
+
+
+def wrong_turns():
+    """Values that are no turns of any number of places."""
+    wrong = NO_VALUES + [0, 1, -1, 10 ** 30, ()]
+    wrong += [[0], [1, 0], {0: 0}, {0}, "0", "10", b"\x00", range(2)]
+    wrong += [(False,), (True, 0), (1, False), (0, True), (0, 1, True), (2, True, 0)]
+    wrong += [(1,), (-1,), (0, 0), (1, 1), (0, 2), (1, 2), (-1, 0), (0, 1, 3), (2, 1, 2), (0, 1, -1)]
+    wrong += [(0, 10 ** 30), (0, -10 ** 30), ("0",), ("0", "1"), (0, None), (None, 0), (0, [1]), (0, {})]
+    wrong += [((0,),), ((0, 1),), ((0,), (1,)), (0, (1,)), (1, ()), nested(20), (0, nested(19))]
+    wrong += [tuple(range(25)), tuple(range(26)), tuple(range(24)) + (0,), tuple(range(1000))]
+    wrong += [tuple(range(23)) + (24,), tuple(range(1, 25)), tuple(range(23)) + (0,)]
+    wrong += [(value,) for value in NO_PLACES]
+    wrong += [(1, value) for value in NO_PLACES]
+    wrong += [(value, 1, 2) for value in NO_PLACES]
+    return wrong
+
+
+def wrong_kinds():
+    """Values that are no kinds of any size."""
+    wrong = NO_VALUES + [0, 1, -1, 10 ** 30, ()]
+    wrong += [[1], [2, 1], {2: 1}, {1}, "1", "21", b"\x01", range(1, 2)]
+    wrong += [(True,), (False,), (2, True), (True, 1), (1, True), (2, 1, True)]
+    wrong += [(0,), (-1,), (1, 0), (2, -1), (3, 1, 0), (1, 2), (2, 3), (3, 1, 2), (1, 1, 2)]
+    wrong += [(25,), (24, 1), (12, 12, 1), (13, 12), (1,) * 25, (2,) * 13, (3,) * 9, (1,) * 1000]
+    wrong += [(10 ** 30,), (10 ** 30, 1), (1, -10 ** 30), ("1",), (1, None), (None, 1), (2, [1]), (2, {})]
+    wrong += [((1,),), ((2, 1),), (2, (1,)), (1, ()), nested(20), (1, nested(19))]
+    wrong += [(value,) for value in NO_VALUES]
+    wrong += [(1, value) for value in NO_PLACES]
+    wrong += [(value, 1) for value in NO_VALUES]
+    return wrong
+
+
+def all_turns(size):
+    return list(itertools.permutations(range(size)))
+
+
+def staying(size):
+    return tuple(range(size))
+
+
+def one_then(one, other):
+    """The one turn then the other, as the document words it."""
+    return tuple(other[one[place]] for place in range(len(one)))
+
+
+def times_over(turn, number):
+    """So many of the turn, one then the other; the number is 0 or above."""
+    made = staying(len(turn))
+    for _ in range(number):
+        made = one_then(made, turn)
+    return made
+
+
+class Telling(unittest.TestCase):
+    """Tests that ask for errors and for the names of arguments."""
+
+    def raised(self, error, call, *arguments, **named):
+        """The error of just this class that the call raises."""
+        with self.assertRaises(error) as caught:
+            call(*arguments, **named)
+        self.assertIs(type(caught.exception), error, (call, arguments, named))
+        return caught.exception
+
+    def tells_given(self, error, given, call, *arguments, **named):
+        """The call raises this error, with the very object that was passed."""
+        told = self.raised(error, call, *arguments, **named)
+        self.assertIs(told.given, given)
+
+    def takes(self, call, *names):
+        """The arguments have these names, none has a default value, all go by position or name."""
+        parameters = list(inspect.signature(call).parameters.values())
+        self.assertEqual([parameter.name for parameter in parameters], list(names), call)
+        for parameter in parameters:
+            self.assertEqual(parameter.kind, parameter.POSITIONAL_OR_KEYWORD)
+            self.assertIs(parameter.default, parameter.empty)
+
+    def gives(self, result, call, *arguments):
+        """The call gives this, by position and by name, with values of the very same sort."""
+        names = list(inspect.signature(call).parameters)
+        by_position = call(*arguments)
+        by_name = call(**dict(reversed(list(zip(names, arguments)))))
+        self.assertEqual(repr(by_position), repr(result), (call, arguments))
+        self.assertEqual(repr(by_name), repr(result), (call, arguments))

@@ -4,8 +4,13 @@ Every part of a value is asked for its kind before it is compared or put into a 
 values that cannot be compared or put into sets.
 """
 
-from seatbuttons.errors import InvalidKind, InvalidNumber, InvalidTurn, OtherSize
+from seatbuttons.errors import InvalidKind, InvalidNumber, InvalidPlace, InvalidPlaces, InvalidStanding
+from seatbuttons.errors import InvalidTurn, OtherSize
 from seatbuttons.limits import MOST_PLACES
+
+LETTERS = "abcdefghijklmnopqrstuvwxyz"
+DIGITS = "0123456789"
+MOST_LETTERS = 8
 
 
 def is_integer(given, least, most):
@@ -54,6 +59,25 @@ def is_kind(given):
     return sum(given) <= MOST_PLACES
 
 
+def is_pair(given):
+    return isinstance(given, tuple) and len(given) == 2
+
+
+def are_signs(given, signs):
+    """Whether it is a string of these signs alone."""
+    return isinstance(given, str) and all([sign in signs for sign in given])
+
+
+def is_name(given):
+    """Whether it is a name that a button may have; `tie` is none."""
+    return are_signs(given, LETTERS) and 1 <= len(given) <= MOST_LETTERS and given != "tie"
+
+
+def is_standing(given, size):
+    """Whether it is a standing of so many places."""
+    return are_signs(given, LETTERS + "-") and len(given) == size
+
+
 def check_number(given, least, most):
     if not is_integer(given, least, most):
         raise InvalidNumber(given)
@@ -74,3 +98,31 @@ def check_two_turns(one, other):
 def check_kind(given):
     if not is_kind(given):
         raise InvalidKind(given)
+
+
+def check_two_kinds(one, other):
+    check_kind(one)
+    check_kind(other)
+    if sum(one) != sum(other):
+        raise OtherSize()
+
+
+def check_place(given, size):
+    if not is_integer(given, 0, size - 1):
+        raise InvalidPlace(given)
+
+
+def check_places(given, size):
+    """Raises an error if it is no tuple of unlike places."""
+    if not isinstance(given, tuple):
+        raise InvalidPlaces(None)
+    seen = set()
+    for index, place in enumerate(given):
+        if not is_integer(place, 0, size - 1) or place in seen:
+            raise InvalidPlaces(index)
+        seen.add(place)
+
+
+def check_standing(given, size):
+    if not is_standing(given, size):
+        raise InvalidStanding(given)

@@ -1,10 +1,11 @@
 """Turns of places: rings, powers, roots, and how turns go one behind the other."""
 
-from math import gcd, lcm
+from math import gcd
 
 from seatbuttons.checks import are_rings, check_number, check_turn, check_two_turns
 from seatbuttons.errors import InvalidTurn
 from seatbuttons.limits import MOST_PLACES, MOST_TIMES
+from seatbuttons.unchecked import along, led_back, number_back, one_then, raised_to, renamed_by, rings_in
 
 MOST_ROOT = 1000
 
@@ -12,18 +13,7 @@ MOST_ROOT = 1000
 def rings(turn):
     """The tuple of the rings of a turn, ascending."""
     check_turn(turn)
-    met = [False] * len(turn)
-    found = []
-    for start in range(len(turn)):
-        ring = []
-        place = start
-        while not met[place]:
-            met[place] = True
-            ring.append(place)
-            place = turn[place]
-        if len(ring) > 0:
-            found.append(tuple(ring))
-    return tuple(found)
+    return rings_in(turn)
 
 
 def kind_of(turn):
@@ -34,46 +24,32 @@ def kind_of(turn):
 def is_even(turn):
     """Whether a turn is even."""
     check_turn(turn)
-    return (len(turn) - len(rings(turn))) % 2 == 0
+    return (len(turn) - len(rings_in(turn))) % 2 == 0
 
 
 def then(one, other):
     """The turn that is the one, then the other."""
     check_two_turns(one, other)
-    return tuple([other[place] for place in one])
+    return one_then(one, other)
 
 
 def back(turn):
     """The turn that leads back from a turn."""
     check_turn(turn)
-    places = [0] * len(turn)
-    for place, goal in enumerate(turn):
-        places[goal] = place
-    return tuple(places)
-
-
-def _along(size, some_rings, steps):
-    """The turn that leads each place so many steps along its ring; the other places stay."""
-    goals = list(range(size))
-    for ring in some_rings:
-        for at, place in enumerate(ring):
-            goals[place] = ring[(at + steps) % len(ring)]
-    return tuple(goals)
+    return led_back(turn)
 
 
 def power(turn, number):
     """The power of a turn with a number."""
     check_turn(turn)
     check_number(number, -MOST_TIMES, MOST_TIMES)
-    return _along(len(turn), rings(turn), number)
+    return raised_to(turn, number)
 
 
 def back_after_turn(turn):
     """The least number from 1 on with which the power of a turn lets all stay."""
-    number = 1
-    for ring in rings(turn):
-        number = lcm(number, len(ring))
-    return number
+    check_turn(turn)
+    return number_back(turn)
 
 
 def turn_of(size, rings):
@@ -81,7 +57,7 @@ def turn_of(size, rings):
     check_number(size, 1, MOST_PLACES)
     if not are_rings(rings, size):
         raise InvalidTurn(rings)
-    return _along(size, rings, 1)
+    return along(size, rings, 1)
 
 
 def moved(turn):
@@ -92,18 +68,20 @@ def moved(turn):
 
 def turned_by(turn, other):
     """The other turn as it is if all places are renamed by the turn."""
-    return then(then(back(turn), other), turn)
+    check_two_turns(turn, other)
+    return renamed_by(turn, other)
 
 
 def commutes(one, other):
     """Whether both orders of two turns make the same."""
-    return then(one, other) == then(other, one)
+    check_two_turns(one, other)
+    return one_then(one, other) == one_then(other, one)
 
 
 def _rings_by_length(turn):
     """The list of lists of the rings of a turn that have one length."""
     by_length = {}
-    for ring in rings(turn):
+    for ring in rings_in(turn):
         by_length.setdefault(len(ring), []).append(ring)
     return list(by_length.values())
 
@@ -181,4 +159,4 @@ def root(turn, number):
         for many in split:
             laced.append(_laced(alike[start:start + many], number))
             start = start + many
-    return _along(len(turn), laced, 1)
+    return along(len(turn), laced, 1)

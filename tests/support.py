@@ -4,6 +4,8 @@ import inspect
 import itertools
 import unittest
 
+from seatbuttons.boards import Board
+
 
 class Stubborn:
     """An object that can neither be compared nor put into a set."""
@@ -50,6 +52,12 @@ def nested(depth):
     return value
 
 
+def no_boards():
+    """Values that are no boards; texts and parts of boards among them."""
+    wrong = NO_VALUES + [0, 1, (), Board, "3", "3 ; a 1 0 2", (3, (), ()), [Board(3, (), ())], (Board(1, (), ()),)]
+    return wrong + [nested(20), {"size": 3}, Board(3, (), ()).text, Board(3, (), ()).turn]
+
+
 def wrong_turns():
     """Values that are no turns of any number of places."""
     wrong = NO_VALUES + [0, 1, -1, 10 ** 30, ()]
@@ -94,12 +102,22 @@ def one_then(one, other):
     return tuple(other[one[place]] for place in range(len(one)))
 
 
+def led_back(turn):
+    """The turn that leads back from a turn, as the document words it."""
+    return tuple(turn.index(place) for place in range(len(turn)))
+
+
 def times_over(turn, number):
     """So many of the turn, one then the other; the number is 0 or above."""
     made = staying(len(turn))
     for _ in range(number):
         made = one_then(made, turn)
     return made
+
+
+def short(*told):
+    """What is told of a failed test, which may be very long."""
+    return repr(told)[:500]
 
 
 class Telling(unittest.TestCase):
@@ -109,7 +127,7 @@ class Telling(unittest.TestCase):
         """The error of just this class that the call raises."""
         with self.assertRaises(error) as caught:
             call(*arguments, **named)
-        self.assertIs(type(caught.exception), error, (call, arguments, named))
+        self.assertIs(type(caught.exception), error, short(call, arguments, named))
         return caught.exception
 
     def tells_given(self, error, given, call, *arguments, **named):
@@ -128,7 +146,33 @@ class Telling(unittest.TestCase):
     def gives(self, result, call, *arguments):
         """The call gives this, by position and by name, with values of the very same sort."""
         names = list(inspect.signature(call).parameters)
+        before = repr(arguments)
         by_position = call(*arguments)
         by_name = call(**dict(reversed(list(zip(names, arguments)))))
-        self.assertEqual(repr(by_position), repr(result), (call, arguments))
-        self.assertEqual(repr(by_name), repr(result), (call, arguments))
+        self.assertEqual(repr(arguments), before, call)
+        self.assertEqual(repr(by_position), repr(result), short(call, arguments))
+        self.assertEqual(repr(by_name), repr(result), short(call, arguments))
+
+    def tells(self, expected, call, *arguments):
+        """The call raises an error just like this one, by position and by name."""
+        names = list(inspect.signature(call).parameters)
+        for positions, named in ((arguments, {}), ((), dict(zip(names, arguments)))):
+            told = self.raised(type(expected), call, *positions, **named)
+            self.assertEqual(list(vars(told)), list(vars(expected)), short(call, arguments))
+            for name, value in vars(expected).items():
+                if isinstance(value, int) and not isinstance(value, bool):
+                    self.assertEqual(repr(vars(told)[name]), repr(value), short(call, arguments))
+                else:
+                    self.assertIs(vars(told)[name], value, short(call, arguments))
+
+    def tells_in_order(self, call, good, *wrong):
+        """Of several wrong arguments at once the first one is told, by itself and beside the others.
+
+        What is wrong are triples (index of the argument, value, error), in the order of telling.
+        """
+        for many in range(1, len(wrong) + 1):
+            for some in itertools.combinations(wrong, many):
+                arguments = list(good)
+                for index, value, _ in some[::-1]:
+                    arguments[index] = value
+                self.tells(some[0][2], call, *arguments)

@@ -12,6 +12,38 @@ EXAMPLES = """
 >>> from seatbuttons.kinds import all_kinds, back_after, first_turn, how_many_turns, kind_power
 >>> [all_kinds(4), len(all_kinds(24)), how_many_turns((2, 1)), how_many_turns((2, 2)), first_turn((3, 1)), kind_power((6, 4), 2), back_after((3, 2))]
 [((4,), (3, 1), (2, 2), (2, 1, 1), (1, 1, 1, 1)), 1575, 3, 3, (1, 2, 0, 3), (3, 3, 2, 2), 6]
+>>> from seatbuttons.joining import bars, can, complete, fewest_rings, how_many_joins, make, plane_joins, share
+>>> [can((2, 1), (2, 1)), bars((2, 1), (3,)), bars((2, 1, 1, 1), (2, 1, 1, 1)), kind_of(then(make((4, 2), (3, 2, 1))[0], make((4, 2), (3, 2, 1))[1])), kind_of(then(swap, complete(swap, (2, 1)))), fewest_rings((2, 1, 1, 1), (2, 1, 1, 1)), fewest_rings((2, 2), (2, 2))]
+[True, 'sign', 'rings', (6,), (3,), 3, 2]
+>>> [how_many_joins((2, 1), (2, 1)), how_many_joins((3,), (3,)), how_many_joins((2, 1), (3,)), share((2, 1), (2, 1)), plane_joins((4, 1), (2, 1, 1, 1))]
+[3, 1, 0, (2, 3), 5]
+>>> from seatbuttons.boards import Board, named, placed, with_button, without
+>>> board = Board(3, (("a", (1, 0, 2)), ("b", (0, 2, 1))), ((0, 1),))
+>>> [board.text, board.names, board.turn("b"), str(without(board, "a")), repr(board), Board.read("3 ; a 1 0 2 ; b 0 2 1 ; tie 0 1") == board, with_button(board, "c", (1, 2, 0)).names]
+['3 ; a 1 0 2 ; b 0 2 1 ; tie 0 1', ('a', 'b'), (0, 2, 1), '3 ; b 0 2 1 ; tie 0 1', 'Board of 3 places, 2 buttons, 1 ties', True, ('a', 'b', 'c')]
+>>> [placed(board, (2, 1, 0)).text, named(board, ("y", "x")).text]
+['3 ; a 0 2 1 ; b 1 0 2 ; tie 1 2', '3 ; x 0 2 1 ; y 1 0 2 ; tie 0 1']
+>>> Board(2, (("a", (1, 0)), ("a", (0, 1))), ())
+raises InvalidButtons(index=1)
+>>> from seatbuttons.presses import back_after_row, first_unlike, length, on, pressed, row_back, row_of, same, shortened, text_of, times, way
+>>> row = (("a", 1), ("b", -1), ("a", 5))
+>>> [row_of(board, "a b-1 a5") == row, text_of(board, row), pressed(board, row), length(board, row), row_back(board, row), shortened(board, row), times(board, (("a", 1), ("b", 1)), 10 ** 30), back_after_row(board, (("a", 1), ("b", 1)))]
+[True, 'a b-1 a5', (2, 1, 0), 7, (('a', -5), ('b', 1), ('a', -1)), (('a', 1), ('b', 1), ('a', 1)), (2, 0, 1), 3]
+>>> [same(board, (("a", 2),), ()), first_unlike(board, (("a", 1),), (("b", 1),)), on(board, row, "xy-"), way(board, row, 0), shortened(board, (("a", 1), ("b", 2), ("a", 1)))]
+[True, 0, '-yx', (0, 1, 2, 2), ()]
+>>> from seatbuttons.chains import agreeing, base, first_outside, holding, inside, is_closed, is_normal, chain, keeping, made, making, member_at, nearest, number_of, order, row_made, same_group, spans, within
+>>> square = Board(4, (("f", (1, 0, 3, 2)), ("r", (1, 2, 3, 0))), ())
+>>> [order(square), base(square), spans(square), inside(square, (0, 3, 2, 1)), inside(square, (1, 0, 2, 3)), agreeing(square, (1, 0, 2, 3)), nearest(square, (1, 0, 2, 3)), agreeing(square, (0, 2, 1, 3))]
+[8, (0, 1), ((0, 1, 2, 3), (1, 3)), True, False, 2, (1, 0, 3, 2), 1]
+>>> [made(square, ("r", "f", (0, 1))), made(square, ("r", 0)), made(square, (None,)), row_made(square, ("r", "f", (0, 1), 2)), made(square, making(square, (2, 3, 0, 1))), is_closed(square, chain(square))]
+[(0, 3, 2, 1), (3, 0, 1, 2), (0, 1, 2, 3), (('f', -1), ('r', -1)), (2, 3, 0, 1), True]
+>>> [member_at(square, 5), number_of(square, (1, 2, 3, 0)), keeping(square, (0,)), holding(square, (0, 2)), holding(square, (1, 0)), order(Board(24, (("a", turn_of(24, ((0, 1),))), ("b", turn_of(24, (tuple(range(24)),)))), ())) // 10 ** 23]
+[(2, 3, 0, 1), 3, 2, 4, 2, 6]
+>>> ring, swaps = Board(3, (("a", (1, 2, 0)),), ()), Board(3, (("a", (1, 0, 2)), ("b", (0, 2, 1))), ())
+>>> [within(ring, swaps), within(swaps, ring), first_outside(swaps, ring), is_normal(ring, swaps), is_normal(Board(3, (("a", (1, 0, 2)),), ()), swaps), same_group(ring, Board(3, (("x", (2, 0, 1)),), ()))]
+[True, False, 'a', True, False, True]
+>>> making(square, (1, 0, 2, 3))
+raises NotInside(level=2)
 """
 
 

@@ -19,7 +19,7 @@ LIBRARY = {
 METHODS = """append clear copy count endswith extend find get index insert isalnum isalpha isdigit islower
     isspace isupper items join keys ljust lower lstrip partition pop remove replace reverse rfind rjust
     rpartition rsplit rstrip setdefault split splitlines startswith strip update upper values zfill
-    bit_length add discard""".split()
+    bit_length add discard removeprefix removesuffix""".split()
 BARRED_NODES = (
     ast.AsyncFunctionDef, ast.AsyncFor, ast.AsyncWith, ast.Await, ast.Global, ast.Import, ast.Div, ast.MatMult,
 )
@@ -142,7 +142,8 @@ class Expressions(unittest.TestCase):
                     self.assertIsInstance(right, ast.Constant, (path, node.lineno))
 
     def test_methods_of_builtin_values(self):
-        own = [node.name for _, node in nodes(ast.FunctionDef)]
+        own = [node.name for _, holder in nodes(ast.ClassDef) for node in holder.body
+               if isinstance(node, ast.FunctionDef)]
         for path, node in nodes(ast.Call):
             if isinstance(node.func, ast.Attribute):
                 self.assertIn(node.func.attr, METHODS + own + ["__init__"], (path, node.lineno))

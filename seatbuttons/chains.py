@@ -47,13 +47,13 @@ def spans(board):
 def inside(board, turn):
     """Whether a turn is one of the board's."""
     check_board_and_turn(board, turn)
-    return _tower(board).comes_down(turn, 0)
+    return _tower(board).comes_down(turn)
 
 
 def agreeing(board, turn):
     """On how many places of the base, from the first one on, a turn of the board can be as this one."""
     check_board_and_turn(board, turn)
-    return len(_tower(board).way_down(turn))
+    return len(_tower(board).way_down(turn)[0])
 
 
 def nearest(board, turn):
@@ -61,7 +61,7 @@ def nearest(board, turn):
     check_board_and_turn(board, turn)
     tower = _tower(board)
     found = staying(board.size)
-    for step in tower.way_down(turn):
+    for step in tower.way_down(turn)[0]:
         found = one_then(tower.turns[step], found)
     return found
 
@@ -70,18 +70,18 @@ def _tower_with(board, turn):
     """The tower of a board; raises an error if the turn is none of the board's."""
     check_board_and_turn(board, turn)
     tower = _tower(board)
-    if not tower.comes_down(turn, 0):
-        raise NotInside(len(tower.way_down(turn)))
+    if not tower.comes_down(turn):
+        raise NotInside(len(tower.way_down(turn)[0]))
     return tower
 
 
 def making(board, turn):
     """Any making that makes a turn of the board."""
     tower = _tower_with(board, turn)
-    made_last = tower.step_with(None, staying(board.size))
-    for step in tower.way_down(turn):
-        made_last = tower.step_with((step, made_last), one_then(tower.turns[step], tower.turns[made_last]))
-    return tuple(tower.steps)
+    steps = [*tower.steps, None]
+    for step in tower.way_down(turn)[0]:
+        steps.append((step, len(steps) - 1))
+    return tuple(steps)
 
 
 def made(board, steps):
@@ -175,7 +175,7 @@ def first_outside(one, other):
     check_two_boards(one, other)
     tower = _tower(other)
     for name, turn in one.buttons:
-        if not tower.comes_down(turn, 0):
+        if not tower.comes_down(turn):
             return name
     return None
 
@@ -185,7 +185,7 @@ def is_normal(one, other):
     check_two_boards(one, other)
     tower = _tower(one)
     renamed = [renamed_by(by, turn) for _, by in other.buttons for _, turn in one.buttons]
-    return all([tower.comes_down(turn, 0) for turn in renamed])
+    return all([tower.comes_down(turn) for turn in renamed])
 
 
 def chain(board):

@@ -105,7 +105,7 @@ def _make(one, other):
     # Rings that hang together as a tree make one ring, in whatever order their places stand.
     size = sum(one)
     pair = (along(size, hung[0], 1), along(size, hung[1], 1))
-    for which, at, added in splits[::-1]:
+    for which, at, added in splits:
         places = [hung[which][at][0], hung[which][added][0], hung[which][added + 1][0]]
         pair = _put_together(pair, which, places)
     return pair

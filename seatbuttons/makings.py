@@ -79,7 +79,8 @@ def row_of_steps(steps):
         if many == 1:
             row.append((steps[at], -1 if is_back else 1))
         elif many > 1:
+            one, other = found[steps[at][0]], found[steps[at][1]]
             # What is put down last is taken up first.
-            for index in steps[at] if is_back else steps[at][::-1]:
-                waiting.append((found[index][0], found[index][1] != is_back, found[index][2]))
+            later = [one, other] if is_back else [other, one]
+            waiting.extend([(index, back != is_back, fewer) for index, back, fewer in later])
     return tuple(row)

@@ -120,6 +120,14 @@ class SixPlaces(unittest.TestCase):
 
 
 class OrderOfKinds(Telling):
+    def test_pairs_are_made_in_both_orders(self):
+        for size in (6, 7, 8, 9):
+            for one, other in pairs_of_kinds(size):
+                if what_bars(one, other) is None:
+                    first, second = make(one, other)
+                    self.assertEqual((kind_of(first), kind_of(second)), (one, other))
+                    self.assertEqual(kind_of(one_then(first, second)), (size,), (one, other))
+
     def test_both_orders_tell_the_same(self):
         for one, other in pairs_of_kinds(7):
             for call in (can, bars, fewest_rings, how_many_joins, share):

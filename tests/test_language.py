@@ -23,6 +23,12 @@ METHODS = """append clear copy count endswith extend find get index insert isaln
 BARRED_NODES = (
     ast.AsyncFunctionDef, ast.AsyncFor, ast.AsyncWith, ast.Await, ast.Global, ast.Import, ast.Div, ast.MatMult,
 )
+ITERATED = "range zip enumerate reversed items keys values".split()
+ITERATING = "list tuple dict sorted sum any all enumerate zip min max len join reversed set".split()
+BARRED_NAMES = """register mro elements open input law version_info with_traceback add_note compile dir eval exec exit
+    globals help id locals os quit super type vars sys _cold _outside _record _written_out _member_names""".split()
+BARRED_BEGINNINGS = ("__", "_wall", "_pe_", "_dcw_", "_enum_", "_cm_", "_twin_re_", "_lay_", "_law_", "_stub_", "_sre")
+CHANGING = "append clear extend insert pop remove reverse setdefault update add discard".split()
 TAKING_LISTS = "any all min max sum sorted".split()
 
 
@@ -53,6 +59,23 @@ def defined_in(tree):
         if isinstance(node, ast.Assign):
             names += [target.id for target in node.targets]
     return names
+
+
+def methods():
+    """Each method with its class."""
+    return [(holder, node) for _, holder in nodes(ast.ClassDef) for node in holder.body
+            if isinstance(node, ast.FunctionDef)]
+
+
+def is_property(function):
+    return [node.id for node in function.decorator_list if isinstance(node, ast.Name)] == ["property"]
+
+
+def called_name(node):
+    """The name of the function or method that is called, None if it has none."""
+    if not isinstance(node, ast.Call):
+        return None
+    return getattr(node.func, "id", getattr(node.func, "attr", None))
 
 
 def imported_in(tree):
@@ -121,6 +144,121 @@ class Names(unittest.TestCase):
                     self.assertNotIn(name, taken, (path, function.name))
 
 
+    def test_barred_names(self):
+        for path, tree in parsed():
+            attributes = [node.attr for node in ast.walk(tree) if isinstance(node, ast.Attribute)]
+            defined = [node.name for node in ast.walk(tree) if isinstance(node, ast.FunctionDef)]
+            for name in bound_names(tree) + attributes + defined:
+                if name not in ("__init__", "__eq__", "__str__", "__repr__"):
+                    self.assertNotIn(name, BARRED_NAMES, path)
+                    self.assertFalse(name.startswith(BARRED_BEGINNINGS), (path, name))
+
+    def test_no_two_files_import_one_another(self):
+        needed = {}
+        for path, tree in parsed():
+            froms = [node.module for node in tree.body if isinstance(node, ast.ImportFrom)]
+            needed[f"seatbuttons.{path.stem}"] = [name for name in froms if name.startswith("seatbuttons.")]
+        while needed:
+            free = [name for name, others in needed.items() if not set(others) & set(needed)]
+            self.assertTrue(free, needed)
+            needed = {name: others for name, others in needed.items() if name not in free}
+
+
+class Classes(unittest.TestCase):
+    def test_decorators(self):
+        for path, tree in parsed():
+            for node in tree.body:
+                if isinstance(node, (ast.FunctionDef, ast.ClassDef)):
+                    self.assertEqual(node.decorator_list, [], path)
+            for holder in [node for node in tree.body if isinstance(node, ast.ClassDef)]:
+                for node in holder.body:
+                    for sign in getattr(node, "decorator_list", []):
+                        self.assertIn(sign.id, ("property", "staticmethod", "classmethod"), path)
+
+    def test_properties_and_shown_texts_only_return(self):
+        for holder, node in methods():
+            if is_property(node) or node.name in ("__eq__", "__str__", "__repr__", "__len__"):
+                rows = [row for row in node.body if not isinstance(row, ast.Expr)]
+                self.assertEqual([type(row) for row in rows], [ast.Return], (holder.name, node.name))
+
+    def test_names_of_properties(self):
+        titles = [node.name for _, node in methods() if is_property(node)]
+        others = [node.name for _, node in methods() if not is_property(node)]
+        builtin = [name for kind in (str, int, list, dict, set, tuple, bytes) for name in dir(kind)]
+        for title in titles:
+            self.assertNotIn(title, others + builtin)
+
+    def test_attributes_that_are_read_are_assigned_or_methods(self):
+        known = [node.name for _, node in methods()] + METHODS
+        known += [node.attr for _, node in nodes(ast.Attribute) if isinstance(node.ctx, ast.Store)]
+        for path, node in nodes(ast.Attribute):
+            self.assertIn(node.attr, known, path)
+
+    def test_no_method_is_an_attribute_too(self):
+        stored = [node.attr for _, node in nodes(ast.Attribute) if isinstance(node.ctx, ast.Store)]
+        for holder, node in methods():
+            self.assertNotIn(node.name, stored, holder.name)
+
+
+class Statements(unittest.TestCase):
+    def test_errors_are_own_and_made_on_the_spot(self):
+        own = defined_in(ast.parse((PACKAGE / "errors.py").read_text()))
+        for path, node in nodes(ast.Raise):
+            self.assertIn(called_name(node.exc), own, path)
+            self.assertTrue(node.cause is None or isinstance(node.cause, ast.Constant), path)
+        for path, node in nodes(ast.ExceptHandler):
+            caught = node.type.elts if isinstance(node.type, ast.Tuple) else [node.type]
+            for kind in caught:
+                self.assertIn(kind.id, own, path)
+
+    def test_what_is_iterated_at_once(self):
+        for path, tree in parsed():
+            allowed = []
+            for node in ast.walk(tree):
+                if isinstance(node, (ast.For, ast.comprehension)):
+                    allowed.append(id(node.iter))
+                elif called_name(node) in ITERATING:
+                    allowed += [id(argument) for argument in node.args]
+            for node in ast.walk(tree):
+                if called_name(node) in ITERATED:
+                    self.assertIn(id(node), allowed, (path, node.lineno))
+
+    def test_loops_do_not_change_what_they_go_over(self):
+        for path, loop in nodes(ast.For):
+            over = [ast.dump(node) for node in ast.walk(loop.iter) if isinstance(node, (ast.Name, ast.Attribute))]
+            for node in [node for row in loop.body for node in ast.walk(row)]:
+                if called_name(node) in CHANGING and isinstance(node.func, ast.Attribute):
+                    self.assertNotIn(ast.dump(node.func.value), over, (path, loop.lineno))
+                if isinstance(node, ast.Subscript) and isinstance(node.ctx, ast.Store):
+                    changed = ast.dump(node.value)
+                    self.assertNotIn(changed, over, (path, loop.lineno))
+
+    def test_sets_are_only_asked(self):
+        """A set is given a name once in its function, and then added to, asked by `in`, or measured."""
+        for path, function in nodes(ast.FunctionDef):
+            kept = [node for node in ast.walk(function) if isinstance(node, ast.Assign) and self.is_set(node.value)]
+            names = [node.targets[0].id for node in kept]
+            self.assertEqual(len(names), len(set(names)), (path, function.name))
+            for name in names:
+                reads = [node for node in ast.walk(function) if isinstance(node, ast.Name) and node.id == name]
+                self.assertEqual(len(reads), 1 + self.asked(function, name), (path, function.name))
+
+    def is_set(self, node):
+        return isinstance(node, (ast.Set, ast.SetComp)) or called_name(node) == "set"
+
+    def asked(self, function, name):
+        """How often the name of a set is used in a way that is allowed."""
+        many = 0
+        for node in ast.walk(function):
+            if called_name(node) in ("add", "discard"):
+                many += getattr(node.func.value, "id", None) == name
+            elif called_name(node) in ("len", "sorted"):
+                many += getattr(node.args[0], "id", None) == name
+            elif isinstance(node, ast.Compare) and isinstance(node.ops[0], (ast.In, ast.NotIn)):
+                many += getattr(node.comparators[0], "id", None) == name
+        return many
+
+
 class Expressions(unittest.TestCase):
     def test_barred_nodes(self):
         self.assertEqual(nodes(BARRED_NODES), [])
@@ -142,8 +280,7 @@ class Expressions(unittest.TestCase):
                     self.assertIsInstance(right, ast.Constant, (path, node.lineno))
 
     def test_methods_of_builtin_values(self):
-        own = [node.name for _, holder in nodes(ast.ClassDef) for node in holder.body
-               if isinstance(node, ast.FunctionDef)]
+        own = [node.name for _, node in methods()]
         for path, node in nodes(ast.Call):
             if isinstance(node.func, ast.Attribute):
                 self.assertIn(node.func.attr, METHODS + own + ["__init__"], (path, node.lineno))

@@ -1,0 +1,62 @@
+"""The names, arguments and places of what the document lists in its interface."""
+
+import importlib
+import inspect
+import unittest
+
+FUNCTIONS = {
+    "turns": """rings(turn) kind_of(turn) is_even(turn) then(one,other) back(turn) power(turn,number)
+        back_after_turn(turn) turn_of(size,rings) moved(turn) turned_by(turn,other) commutes(one,other)
+        roots(turn,number) root(turn,number)""",
+    "kinds": "all_kinds(size) how_many_turns(kind) first_turn(kind) kind_power(kind,number) back_after(kind)",
+    "joining": """can(one,other) bars(one,other) make(one,other) complete(turn,kind) fewest_rings(one,other)
+        how_many_joins(one,other) share(one,other) plane_joins(one,other)""",
+    "boards": "with_button(board,name,turn) without(board,name) placed(board,turn) named(board,names)",
+    "presses": """row_of(board,text) text_of(board,row) pressed(board,row) length(board,row) row_back(board,row)
+        times(board,row,number) back_after_row(board,row) same(board,one,other) first_unlike(board,one,other)
+        on(board,row,standing) way(board,row,place) shortened(board,row)""",
+    "chains": """order(board) base(board) spans(board) inside(board,turn) agreeing(board,turn) nearest(board,turn)
+        making(board,turn) made(board,steps) row_made(board,steps) member_at(board,number) number_of(board,turn)
+        keeping(board,places) holding(board,places) within(one,other) same_group(one,other)
+        first_outside(one,other) is_normal(one,other) chain(board) is_chain(board,value) is_closed(board,value)""",
+}
+
+CLASSES = {"boards": {"Board": "__init__(self,size,buttons,ties) read(text) turn(self,name)"}}
+PROPERTIES = {"boards": {"Board": "size buttons ties names text"}}
+
+
+def module_of(name):
+    return importlib.import_module(f"seatbuttons.{name}")
+
+
+class Interface(unittest.TestCase):
+    def check(self, told, function, name):
+        shown = "".join(str(inspect.signature(function)).split())
+        self.assertEqual(function.__name__ + shown, told)
+        self.assertEqual(function.__module__, f"seatbuttons.{name}")
+
+    def test_functions(self):
+        for name, told in FUNCTIONS.items():
+            for function in told.split():
+                self.check(function, getattr(module_of(name), function.split("(")[0]), name)
+
+    def test_classes(self):
+        for name, classes in CLASSES.items():
+            for title, told in classes.items():
+                held = vars(getattr(module_of(name), title))
+                self.assertEqual(held["__module__"], f"seatbuttons.{name}")
+                for method in told.split():
+                    found = held[method.split("(")[0]]
+                    self.check(method, getattr(found, "__func__", found), name)
+
+    def test_properties(self):
+        for name, classes in PROPERTIES.items():
+            for title, told in classes.items():
+                held = vars(getattr(module_of(name), title))
+                for title_of in told.split():
+                    self.assertIsInstance(held[title_of], property)
+                    self.assertIsNone(held[title_of].fset)
+
+
+if __name__ == "__main__":
+    unittest.main()

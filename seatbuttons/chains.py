@@ -194,7 +194,7 @@ def chain(board):
     tower = _tower(board)
     levels = []
     for level in tower.levels:
-        pairs = [(goal, step if step > 0 else None) for goal, step in level.leading.items()]
+        pairs = [(goal, None if goal == level.place else step) for goal, step in level.leading.items()]
         levels.append(tuple(sorted(pairs)))
     return tuple(tower.steps), tuple([level.place for level in tower.levels]), tuple(levels)
 

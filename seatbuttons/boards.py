@@ -64,10 +64,10 @@ class Board:
         return self._buttons[self.names.index(name)][1]
 
     def __eq__(self, other):
-        return isinstance(other, Board) and self.text == other.text
+        return isinstance(other, Board) and self._text == other._text
 
     def __str__(self):
-        return self.text
+        return str(self._text)
 
     def __repr__(self):
         return f"Board of {self.size} places, {len(self.buttons)} buttons, {len(self.ties)} ties"

@@ -181,6 +181,13 @@ class Classes(unittest.TestCase):
                 rows = [row for row in node.body if not isinstance(row, ast.Expr)]
                 self.assertEqual([type(row) for row in rows], [ast.Return], (holder.name, node.name))
 
+    def test_shown_texts_are_plainly_strings(self):
+        for holder, node in methods():
+            if node.name in ("__str__", "__repr__"):
+                told = node.body[-1].value
+                plain = isinstance(told, (ast.Constant, ast.JoinedStr)) or called_name(told) in ("str", "repr", "join")
+                self.assertTrue(plain, (holder.name, node.name))
+
     def test_names_of_properties(self):
         titles = [node.name for _, node in methods() if is_property(node)]
         others = [node.name for _, node in methods() if not is_property(node)]

@@ -1,6 +1,7 @@
 """Boards: places, buttons that turn what stands on them, and ties."""
 
-from seatbuttons.checks import DIGITS, are_signs, check_number, check_turn, is_integer, is_name, is_pair, is_turn
+from seatbuttons.checks import DIGITS, are_signs, check_number, check_place, check_turn, is_integer, is_name, is_pair
+from seatbuttons.checks import is_turn
 from seatbuttons.errors import InvalidButtons, InvalidName, InvalidNames, InvalidNumber, InvalidText, InvalidTies
 from seatbuttons.errors import NotABoard, OtherSize, TooMany, UnknownName
 from seatbuttons.limits import MOST_BUTTONS, MOST_PLACES
@@ -153,6 +154,12 @@ def check_board_and_turn(board, turn):
     check_turn(turn)
     if board.size != len(turn):
         raise OtherSize()
+
+
+def check_board_place_and_goal(board, place, goal):
+    check_board(board)
+    check_place(place, board.size)
+    check_place(goal, board.size)
 
 
 def check_known(board, name):

@@ -2,82 +2,56 @@
 
 from seatbuttons.boards import check_board, check_board_and_turn, check_two_boards
 from seatbuttons.checks import are_unlike_places, check_places, is_integer, is_pair
-from seatbuttons.errors import InvalidMaking, InvalidNumber, NotInside, TooMany
+from seatbuttons.errors import InvalidMaking, InvalidNumber, TooMany
 from seatbuttons.limits import MOST_TURNS
 from seatbuttons.makings import check_making, row_of_steps, turns_of_steps
-from seatbuttons.towers import tower_of
-from seatbuttons.unchecked import one_then, renamed_by, staying
-
-
-def _tower(board):
-    """The tower of a board whose line are all places in their order: its levels are the base's."""
-    return tower_of(board, staying(board.size))
-
-
-def _product(numbers):
-    found = 1
-    for number in numbers:
-        found = found * number
-    return found
-
-
-def _order(levels):
-    """How many turns a tower with these levels has."""
-    return _product([len(level.leading) for level in levels])
+from seatbuttons.towers import count_turns, tower_of, tower_with, whole_tower
+from seatbuttons.unchecked import one_then, product_of, renamed_by, staying
 
 
 def order(board):
     """How many turns the group of a board has."""
     check_board(board)
-    return _order(_tower(board).levels)
+    return count_turns(whole_tower(board).levels)
 
 
 def base(board):
     """The base of a board."""
     check_board(board)
-    return tuple([level.place for level in _tower(board).levels])
+    return tuple([level.place for level in whole_tower(board).levels])
 
 
 def spans(board):
     """The spans of a board, one for each place of the base."""
     check_board(board)
-    return tuple([tuple(sorted(list(level.leading))) for level in _tower(board).levels])
+    return tuple([tuple(sorted(list(level.leading))) for level in whole_tower(board).levels])
 
 
 def inside(board, turn):
     """Whether a turn is one of the board's."""
     check_board_and_turn(board, turn)
-    return _tower(board).comes_down(turn)
+    return whole_tower(board).comes_down(turn)
 
 
 def agreeing(board, turn):
     """On how many places of the base, from the first one on, a turn of the board can be as this one."""
     check_board_and_turn(board, turn)
-    return len(_tower(board).way_down(turn)[0])
+    return len(whole_tower(board).way_down(turn)[0])
 
 
 def nearest(board, turn):
     """Any turn of the board that is as this one on so many places of the base."""
     check_board_and_turn(board, turn)
-    tower = _tower(board)
+    tower = whole_tower(board)
     found = staying(board.size)
     for step in tower.way_down(turn)[0]:
         found = one_then(tower.turns[step], found)
     return found
 
 
-def _tower_with(board, turn):
-    """The tower of a board; raises an error if the turn is none of the board's."""
-    check_board_and_turn(board, turn)
-    tower = _tower(board)
-    if not tower.comes_down(turn):
-        raise NotInside(len(tower.way_down(turn)[0]))
-    return tower
-
-
 def making(board, turn):
     """Any making that makes a turn of the board."""
-    tower = _tower_with(board, turn)
+    tower = tower_with(board, turn)
     steps = [*tower.steps, None]
     for step in tower.way_down(turn)[0]:
         steps.append((step, len(steps) - 1))
@@ -101,12 +75,12 @@ def row_made(board, steps):
 def member_at(board, number):
     """The turn of the board with this number, if all are numbered ascending."""
     check_board(board)
-    tower = _tower(board)
-    if not is_integer(number, 0, _order(tower.levels) - 1):
+    tower = whole_tower(board)
+    if not is_integer(number, 0, count_turns(tower.levels) - 1):
         raise InvalidNumber(number)
     found = staying(board.size)
     for index, level in enumerate(tower.levels):
-        later = _order(tower.levels[index + 1:])
+        later = count_turns(tower.levels[index + 1:])
         # Up to here as `found`, the turns of the board lead this place to where `found` leads these.
         goals = sorted([(found[goal], step) for goal, step in level.leading.items()])
         found = one_then(tower.turns[goals[number // later][1]], found)
@@ -116,13 +90,13 @@ def member_at(board, number):
 
 def number_of(board, turn):
     """The number of a turn of the board, if all are numbered ascending."""
-    tower = _tower_with(board, turn)
+    tower = tower_with(board, turn)
     found = staying(board.size)
     number = 0
     for index, level in enumerate(tower.levels):
         goals = sorted([(found[goal], step) for goal, step in level.leading.items()])
         at = [goal for goal, _ in goals].index(turn[level.place])
-        number = number + at * _order(tower.levels[index + 1:])
+        number = number + at * count_turns(tower.levels[index + 1:])
         found = one_then(tower.turns[goals[at][1]], found)
     return number
 
@@ -133,7 +107,7 @@ def keeping(board, places):
     check_places(places, board.size)
     others = [place for place in range(board.size) if place not in places]
     levels = tower_of(board, (*places, *others)).levels
-    return _order([level for level in levels if level.place not in places])
+    return count_turns([level for level in levels if level.place not in places])
 
 
 def _count_lots(board, places):
@@ -173,7 +147,7 @@ def same_group(one, other):
 def first_outside(one, other):
     """The first name of a button of the one whose turn is none of the other, None if there is none."""
     check_two_boards(one, other)
-    tower = _tower(other)
+    tower = whole_tower(other)
     for name, turn in one.buttons:
         if not tower.comes_down(turn):
             return name
@@ -183,7 +157,7 @@ def first_outside(one, other):
 def is_normal(one, other):
     """Whether the turns of the one are turns of it too if a button of the other renames the places."""
     check_two_boards(one, other)
-    tower = _tower(one)
+    tower = whole_tower(one)
     renamed = [renamed_by(by, turn) for _, by in other.buttons for _, turn in one.buttons]
     return all([tower.comes_down(turn) for turn in renamed])
 
@@ -191,7 +165,7 @@ def is_normal(one, other):
 def chain(board):
     """Any closed chain for the board whose line is the base."""
     check_board(board)
-    tower = _tower(board)
+    tower = whole_tower(board)
     levels = []
     for level in tower.levels:
         pairs = [(goal, None if goal == level.place else step) for goal, step in level.leading.items()]
@@ -244,4 +218,4 @@ def is_closed(board, value):
     """Whether any value is a closed chain for the board."""
     # All turns of a chain are the board's, and no two of their products, one from each level, are
     # the same. So just if these are as many as the order, all turns of the board come down.
-    return is_chain(board, value) and _product([len(level) for level in value[2]]) == order(board)
+    return is_chain(board, value) and product_of([len(level) for level in value[2]]) == order(board)

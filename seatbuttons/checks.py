@@ -11,6 +11,7 @@ from seatbuttons.limits import MOST_PLACES
 LETTERS = "abcdefghijklmnopqrstuvwxyz"
 DIGITS = "0123456789"
 MOST_LETTERS = 8
+MOST_LED = 3
 
 
 def is_integer(given, least, most):
@@ -123,6 +124,35 @@ def check_places(given, size):
         seen.add(place)
 
 
+def check_few_places(given, size):
+    """Raises an error if it is no tuple of one to three unlike places."""
+    if not isinstance(given, tuple) or len(given) == 0:
+        raise InvalidPlaces(None)
+    check_places(given[:MOST_LED], size)
+    if len(given) > MOST_LED:
+        raise InvalidPlaces(MOST_LED)
+
+
+def check_goals(given, size, many):
+    """Raises an error if it is no tuple of so many unlike places."""
+    if not isinstance(given, tuple) or len(given) != many:
+        raise InvalidPlaces(None)
+    check_places(given, size)
+
+
 def check_standing(given, size):
     if not is_standing(given, size):
+        raise InvalidStanding(given)
+
+
+def check_any_standing(given):
+    """Raises an error if it is a standing of no number of places."""
+    if not are_signs(given, LETTERS + "-") or not 1 <= len(given) <= MOST_PLACES:
+        raise InvalidStanding(given)
+
+
+def check_standing_with_room(given, size):
+    """Raises an error if it is no standing with just one empty place."""
+    check_standing(given, size)
+    if given.count("-") != 1:
         raise InvalidStanding(given)

@@ -7,7 +7,10 @@ of them than a making may have: each maker of a level makes its group greater, a
 of n places there are never 2 n groups of which each one is greater than the one before it.
 """
 
-from seatbuttons.unchecked import led_back, one_then, staying
+from seatbuttons.boards import check_board_and_turn
+from seatbuttons.errors import NotInside, TooMany
+from seatbuttons.limits import MOST_TURNS
+from seatbuttons.unchecked import led_back, one_then, product_of, staying
 
 
 class Level:
@@ -61,6 +64,13 @@ class Tower:
     def comes_down(self, turn):
         return self.way_down(turn)[1] == self.turns[0]
 
+    def take(self, step, turn):
+        """Adds a turn, made by this step, to the whole group, and tells whether it was not in it."""
+        if self.comes_down(turn):
+            return False
+        self.let_in(self.step_with(step, turn), 0)
+        return True
+
     def let_in(self, step, first):
         """Adds the turn of a step, which does not come down, to the group of the level `first`.
 
@@ -95,8 +105,42 @@ def tower_of(board, line):
     """The tower of the group of a board, with this line of all places."""
     tower = Tower(line)
     for name, turn in board.buttons:
-        if not tower.comes_down(turn):
-            tower.let_in(tower.step_with(name, turn), 0)
+        tower.take(name, turn)
     # From here on nothing is let in: levels that lead nowhere tell nothing more.
     tower.levels = [level for level in tower.levels if len(level.leading) > 1]
     return tower
+
+
+def whole_tower(board):
+    """The tower of a board whose line are all places in their order: its levels are the base's."""
+    return tower_of(board, staying(board.size))
+
+
+def tower_with(board, turn):
+    """The tower of a board; raises an error if the turn is none of the board's."""
+    check_board_and_turn(board, turn)
+    tower = whole_tower(board)
+    if not tower.comes_down(turn):
+        raise NotInside(len(tower.way_down(turn)[0]))
+    return tower
+
+
+def count_turns(levels):
+    """How many turns a tower with these levels has."""
+    return product_of([len(level.leading) for level in levels])
+
+
+def check_few_turns(tower):
+    """Raises an error if the tower's group has more turns than are gone through."""
+    if count_turns(tower.levels) > MOST_TURNS:
+        raise TooMany(MOST_TURNS)
+
+
+def all_turns(tower):
+    """The list of all turns of a tower's group, if they are not too many to go through."""
+    check_few_turns(tower)
+    turns = [tower.turns[0]]
+    for level in tower.levels[::-1]:
+        leading = [tower.turns[step] for step in level.leading.values()]
+        turns = [one_then(turn, last) for last in leading for turn in turns]
+    return turns

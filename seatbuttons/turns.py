@@ -5,7 +5,8 @@ from math import gcd
 from seatbuttons.checks import are_rings, check_number, check_turn, check_two_turns
 from seatbuttons.errors import InvalidTurn
 from seatbuttons.limits import MOST_PLACES, MOST_TIMES
-from seatbuttons.unchecked import along, led_back, number_back, one_then, raised_to, renamed_by, rings_in
+from seatbuttons.unchecked import along, goes_with, is_even_turn, kind_in, led_back, number_back, one_then
+from seatbuttons.unchecked import raised_to, renamed_by, rings_in
 
 MOST_ROOT = 1000
 
@@ -18,13 +19,14 @@ def rings(turn):
 
 def kind_of(turn):
     """The kind of a turn: the lengths of its rings, the greatest first."""
-    return tuple(sorted([len(ring) for ring in rings(turn)], reverse=True))
+    check_turn(turn)
+    return kind_in(turn)
 
 
 def is_even(turn):
     """Whether a turn is even."""
     check_turn(turn)
-    return (len(turn) - len(rings_in(turn))) % 2 == 0
+    return is_even_turn(turn)
 
 
 def then(one, other):
@@ -75,7 +77,7 @@ def turned_by(turn, other):
 def commutes(one, other):
     """Whether both orders of two turns make the same."""
     check_two_turns(one, other)
-    return one_then(one, other) == one_then(other, one)
+    return goes_with(one, [other])
 
 
 def _rings_by_length(turn):

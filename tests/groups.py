@@ -110,3 +110,14 @@ def six_places():
     """Boards of six places whose turns are not all, the even ones, or few."""
     return [pairs_kept(3), ring_turned_over(6), apart(2, 4), apart(3, 3),
             board_of((1, 2, 3, 4, 0, 5), (0, 4, 3, 2, 1, 5), (5, 1, 4, 3, 2, 0))]
+
+
+def just_20000():
+    """A board of 22 places with 20000 turns: four rings of five that can be turned over, and a swap."""
+    turns = []
+    for start in (0, 5, 10, 15):
+        lot = tuple(range(start, start + 5))
+        # The swap comes with the first ring, whose sixth power is itself and lets the swap be.
+        turns.append(turn_of(22, (lot, (20, 21)) if start == 0 else (lot,)))
+        turns.append(turn_of(22, ((lot[1], lot[4]), (lot[2], lot[3]))))
+    return board_of(*turns)

@@ -89,6 +89,15 @@ def wrong_kinds():
     return wrong
 
 
+def wrong_standings(size):
+    """Values that are no standings of so many places, four at least."""
+    good = "aab-" + "a" * (size - 4)
+    wrong = NO_VALUES + [0, "", good[1:], good + "a", "a" * 24 if size < 24 else "a" * 25, good[:3]]
+    wrong += [good[1:] + sign for sign in " 1A;\n_>~{`@[0.,\\"]
+    wrong += [good.upper(), good + "\n", good[1:] + "aa", tuple(good), list(good), good.encode(), (good,), nested(20)]
+    return wrong + [{good: 1}, "tie ", " " * size, "1" * size]
+
+
 def all_turns(size):
     return list(itertools.permutations(range(size)))
 

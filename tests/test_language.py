@@ -25,6 +25,7 @@ BARRED_NODES = (
 )
 ITERATED = "range zip enumerate reversed items keys values".split()
 ITERATING = "list tuple dict sorted sum any all enumerate zip min max len join reversed set".split()
+ITERATING += "product combinations permutations".split()
 BARRED_NAMES = """register mro elements open input law version_info with_traceback add_note compile dir eval exec exit
     globals help id locals os quit super type vars sys _cold _outside _record _written_out _member_names""".split()
 BARRED_BEGINNINGS = ("__", "_wall", "_pe_", "_dcw_", "_enum_", "_cm_", "_twin_re_", "_lay_", "_law_", "_stub_", "_sre")

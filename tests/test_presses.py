@@ -9,7 +9,7 @@ from seatbuttons.presses import back_after_row, first_unlike, length, on, presse
 from seatbuttons.presses import text_of, times, way
 
 from tests.support import NO_INTEGERS, NO_PLACES, NO_VALUES, Telling, all_turns, led_back, nested, no_boards, one_then
-from tests.support import staying, times_over
+from tests.support import staying, times_over, wrong_standings
 
 GREAT = 10 ** 30
 SQUARE = Board(4, (("f", (1, 0, 3, 2)), ("r", (1, 2, 3, 0))), ())
@@ -312,9 +312,7 @@ class Wrong(Telling):
             self.tells(InvalidNumber(wrong), times, SQUARE, ROWS[1], wrong)
 
     def test_wrong_standings(self):
-        wrong = NO_VALUES + [0, "", "aab", "aabbb", "aab ", "aab1", "AABB", "aa;b", "aa\nb", "aa_b", "aa>b", "aab\n", ("a",) * 4]
-        wrong += [list("aabb"), b"aabb", ("aabb",), nested(20), "aab~", "a" * 24, "aab{", "aab`"]
-        for standing in wrong:
+        for standing in wrong_standings(4):
             self.tells(InvalidStanding(standing), on, SQUARE, ROWS[1], standing)
 
     def test_wrong_places(self):

@@ -5,7 +5,7 @@ from seatbuttons.checks import DIGITS, LETTERS, are_signs, check_number, check_p
 from seatbuttons.checks import is_integer, is_pair
 from seatbuttons.errors import InvalidRow, InvalidText
 from seatbuttons.limits import MOST_PRESSES, MOST_TIMES
-from seatbuttons.unchecked import along, led_back, number_back, one_then, raised_to, rings_in, staying
+from seatbuttons.unchecked import along, led_back, number_back, one_then, raised_to, rings_in, staying, things_of
 
 MOST_DIGITS = 31
 
@@ -139,7 +139,7 @@ def on(board, row, standing):
     """The standing that a row makes of a standing."""
     _check_board_and_row(board, row)
     check_standing(standing, board.size)
-    return "".join([standing[place] for place in led_back(turn_of_row(board, row))])
+    return things_of(standing, led_back(turn_of_row(board, row)))
 
 
 def way(board, row, place):

@@ -44,6 +44,56 @@ raises InvalidButtons(index=1)
 [True, False, 'a', True, False, True]
 >>> making(square, (1, 0, 2, 3))
 raises NotInside(level=2)
+>>> from seatbuttons.places import count_reaches, distance, distance_leading, fold, reaches, row_leading, row_to
+>>> six = Board(6, (("a", (1, 2, 3, 4, 5, 0)), ("b", (0, 5, 4, 3, 2, 1))), ())
+>>> two = Board(5, (("a", (1, 0, 2, 3, 4)), ("b", (0, 1, 3, 4, 2))), ())
+>>> [reaches(six), reaches(two), distance(six, 0, 2), distance(six, 1, 5), distance(two, 0, 2), row_to(six, 0, 5), distance_leading(six, (0, 1), (3, 2)), row_leading(six, (0, 1), (0, 2))]
+[((0, 1, 2, 3, 4, 5),), ((0, 1), (2, 3, 4)), 2, 1, None, (('a', -1),), 4, None]
+>>> [count_reaches(six, 1), count_reaches(six, 2), count_reaches(two, 1), count_reaches(two, 3), fold(six), fold(two), fold(swaps), fold(Board(1, (), ()))]
+[1, 3, 2, 11, 1, 0, 3, 1]
+>>> from seatbuttons.blocks import blocks_with, board_of, has_blocks, is_block, least_block, led_blocks, top_blocks
+>>> [blocks_with(six, 0), least_block(six, (0, 2)), least_block(six, (1, 4)), least_block(six, (0, 1)), led_blocks(six, (0, 3)), is_block(six, (0, 3)), is_block(six, (0, 1)), has_blocks(two, 2)]
+[((0,), (0, 3), (0, 2, 4), (0, 1, 2, 3, 4, 5)), (0, 2, 4), (1, 4), (0, 1, 2, 3, 4, 5), ((0, 3), (1, 4), (2, 5)), True, False, False]
+>>> [board_of(six, (0, 3)).buttons, top_blocks(six, 0), top_blocks(two, 0)]
+[(('a', (1, 2, 0)), ('b', (0, 2, 1))), ((0, 3), (0, 2, 4)), ((0,),)]
+>>> least_block(two, (0, 2))
+raises NotLed(one=0, other=2)
+>>> from seatbuttons.likeness import alike, count_together, goes_together, likeness, renaming, together_through
+>>> pairs = Board(4, (("a", (1, 0, 3, 2)),), ())
+>>> [likeness(six, 0, 3), likeness(six, 0, 1), likeness(pairs, 0, 2), count_together(six), count_together(two), count_together(pairs), together_through(six, 0, 3), goes_together(pairs, (2, 3, 0, 1))]
+[((0, 3), (1, 4), (2, 5), (3, 0), (4, 1), (5, 2)), None, ((0, 2), (1, 3)), 2, 6, 8, (3, 4, 5, 0, 1, 2), True]
+>>> [alike(ring, Board(3, (("x", (2, 0, 1)),), ())), renaming(ring, Board(3, (("x", (2, 0, 1)),), ()))[1], alike(ring, swaps), alike(board, swaps)]
+[True, ('x',), False, False]
+>>> from seatbuttons.classes import centre, class_of, count_classes, is_even_board, kinds_in
+>>> [kinds_in(six), kinds_in(swaps), count_classes(six), count_classes(swaps), len(centre(six)), centre(swaps), class_of(six, (1, 2, 3, 4, 5, 0)), is_even_board(ring), is_even_board(six)]
+[(((6,), 2), ((3, 3), 2), ((2, 2, 2), 4), ((2, 2, 1, 1), 3), ((1, 1, 1, 1, 1, 1), 1)), (((3,), 2), ((2, 1), 3), ((1, 1, 1), 1)), 6, 3, 2, ((0, 1, 2),), ((1, 2, 3, 4, 5, 0), (5, 0, 1, 2, 3, 4)), True, False]
+>>> from seatbuttons.standings import all_reached, count_reached, farthest_standings, goes, keepers, least, presses_between, row_between, turned
+>>> from seatbuttons.sorts import sorts, sorts_with
+>>> [turned("aabb", (1, 2, 3, 0)), on(square, (("r", 1), ("f", 1)), "abcd"), count_reached(square, "aabb"), all_reached(square, "abab"), least(square, "bbaa"), keepers(square, "aabb"), keepers(square, "abab")]
+['baab', 'adcb', 4, ('abab', 'baba'), 'aabb', 2, 4]
+>>> [goes(square, "aabb", "abab"), row_between(square, "aabb", "abba"), presses_between(square, "aabb", "bbaa"), row_between(square, "aabb", "abab"), farthest_standings(square, "aabb")]
+[False, (('r', -1),), 2, None, ('bbaa',)]
+>>> [sorts(square, 2), sorts(square, 1), sorts(square, 0), sorts_with(square, (2, 2)), sorts_with(square, (1, 1, 2)), sorts_with(square, (4, 0))]
+[6, 1, 0, 2, 2, 1]
+>>> from seatbuttons.yards import comes_to, count_come, empties, fewest_steps, homing_kind, homing_order, is_homing, run_steps, steps_to
+>>> yard = Board(4, (), ((0, 1), (0, 3), (1, 2), (2, 3)))
+>>> grid = Board(6, (), ((0, 1), (0, 3), (1, 2), (1, 4), (2, 5), (3, 4), (4, 5)))
+>>> seven = Board(7, (), ((0, 1), (0, 5), (0, 6), (1, 2), (2, 3), (3, 4), (3, 6), (4, 5)))
+>>> mixed = Board(4, (("a", (0, 2, 1, 3)),), ((0, 1), (0, 3), (1, 2), (2, 3)))
+>>> [homing_order(yard, 0), homing_order(grid, 0), homing_order(seven, 0), homing_order(mixed, 0), homing_kind(yard, 0), homing_kind(grid, 0), homing_kind(seven, 0), homing_kind(mixed, 0)]
+[3, 60, 120, 6, 'even', 'even', 'other', 'all']
+>>> [empties(yard, 0), steps_to(yard, 0, 3), run_steps(yard, "-abc", ((">", 1), (">", 2), (">", 3), (">", 0))), is_homing(yard, 0, (0, 2, 3, 1)), is_homing(yard, 0, (0, 2, 1, 3)), is_homing(mixed, 0, (0, 2, 1, 3))]
+[(0, 1, 2, 3), (('>', 3),), '-bca', True, False, True]
+>>> [count_come(yard, "-abc"), count_come(yard, "-aab"), count_come(grid, "-abcde"), comes_to(grid, "-abcde", "-bacde"), comes_to(grid, "-aabcd", "-abacd"), fewest_steps(yard, "-abc", "a-bc"), fewest_steps(yard, "-abc", "-bca")]
+[12, 12, 360, False, True, 1, 4]
+>>> run_steps(yard, "-abc", ((">", 2),))
+raises InvalidSteps(index=0)
+>>> from seatbuttons.sorting import common_beginning, crossings, first_way, how_many_ways, index_of_way, is_beginning, is_below, just_below, nth_way, turn_of_way
+>>> top = (3, 2, 1, 0)
+>>> [crossings((2, 0, 1)), first_way((2, 0, 1)), turn_of_way(3, (0, 1)), first_way(top), how_many_ways(top), nth_way(top, 15), index_of_way(4, (2, 1, 2, 0, 1, 2)), how_many_ways((0, 1))]
+[((0, 1), (0, 2)), (0, 1), (2, 0, 1), (0, 1, 0, 2, 1, 0), 16, (2, 1, 2, 0, 1, 2), 15, 1]
+>>> [is_below((1, 0, 2), (1, 2, 0)), is_below((1, 2, 0), (2, 0, 1)), is_beginning((1, 0, 2), (2, 0, 1)), is_beginning((0, 2, 1), (2, 0, 1)), common_beginning((2, 0, 1), (2, 1, 0)), just_below((2, 1, 0))]
+[True, False, True, False, (2, 0, 1), ((1, 2, 0), (2, 0, 1))]
 """
 
 

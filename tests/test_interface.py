@@ -19,6 +19,24 @@ FUNCTIONS = {
         making(board,turn) made(board,steps) row_made(board,steps) member_at(board,number) number_of(board,turn)
         keeping(board,places) holding(board,places) within(one,other) same_group(one,other)
         first_outside(one,other) is_normal(one,other) chain(board) is_chain(board,value) is_closed(board,value)""",
+    "places": """reaches(board) distance(board,place,goal) row_to(board,place,goal) distance_leading(board,places,goals)
+        row_leading(board,places,goals) count_reaches(board,number) fold(board)""",
+    "blocks": """is_block(board,value) least_block(board,places) blocks_with(board,place) top_blocks(board,place)
+        has_blocks(board,place) led_blocks(board,block) board_of(board,block)""",
+    "likeness": """likeness(board,place,goal) goes_together(board,turn) count_together(board)
+        together_through(board,place,goal) renaming(one,other) alike(one,other)""",
+    "classes": "kinds_in(board) class_of(board,turn) count_classes(board) centre(board) is_even_board(board)",
+    "standings": """turned(standing,turn) count_reached(board,standing) all_reached(board,standing) least(board,standing)
+        keepers(board,standing) goes(board,one,other) row_between(board,one,other) presses_between(board,one,other)
+        farthest_standings(board,one)""",
+    "sorts": "sorts(board,signs) sorts_with(board,counts)",
+    "yards": """empties(board,home) steps_to(board,home,goal) homing_turns(board,home) homing_order(board,home)
+        is_homing(board,home,turn) homing_kind(board,home) run_steps(board,standing,steps)
+        comes_to(board,one,other) count_come(board,standing) steps_between(board,one,other)
+        fewest_steps(board,one,other)""",
+    "sorting": """crossings(turn) first_way(turn) turn_of_way(size,way) how_many_ways(turn) nth_way(turn,index)
+        index_of_way(size,way) is_below(one,other) is_beginning(one,other) common_beginning(one,other)
+        just_below(turn)""",
 }
 
 CLASSES = {"boards": {"Board": "__init__(self,size,buttons,ties) read(text) turn(self,name)"}}

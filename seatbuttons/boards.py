@@ -1,7 +1,7 @@
 """Boards: places, buttons that turn what stands on them, and ties."""
 
-from seatbuttons.checks import DIGITS, are_signs, check_number, check_place, check_turn, is_integer, is_name, is_pair
-from seatbuttons.checks import is_turn
+from seatbuttons.checks import DIGITS, are_signs, check_number, check_place, check_turn, is_button_name, is_integer
+from seatbuttons.checks import is_pair, is_turn
 from seatbuttons.errors import InvalidButtons, InvalidName, InvalidNames, InvalidNumber, InvalidText, InvalidTies
 from seatbuttons.errors import NotABoard, OtherSize, TooMany, UnknownName
 from seatbuttons.limits import MOST_BUTTONS, MOST_PLACES
@@ -23,14 +23,8 @@ class Board:
     @staticmethod
     def read(text):
         """The board with this text."""
-        if not isinstance(text, str):
-            raise InvalidText(text)
-        try:
-            board = _board_in(text)
-        except (InvalidNumber, InvalidButtons, InvalidTies):
-            raise InvalidText(text) from None
-        # What stands in another order or form was understood, but is not how the board is written.
-        if board.text != text:
+        board = board_in(text)
+        if board is None:
             raise InvalidText(text)
         return board
 
@@ -76,7 +70,7 @@ class Board:
 
 def _is_button(given, size, names):
     """Whether it is a button of a board of this size, with a name that is not taken by others."""
-    if not is_pair(given) or not is_name(given[0]) or given[0] in names:
+    if not is_pair(given) or not is_button_name(given[0]) or given[0] in names:
         return False
     return is_turn(given[1]) and len(given[1]) == size
 
@@ -122,7 +116,7 @@ def _number_in(word):
     return None
 
 
-def _board_in(text):
+def _board_told(text):
     """The board that a text tells if its parts may stand in any order and have needless zeros."""
     first, *parts = text.split(" ; ")
     buttons = []
@@ -135,6 +129,18 @@ def _board_in(text):
         else:
             buttons.append((word, places))
     return Board(_number_in(first), tuple(buttons), tuple(ties))
+
+
+def board_in(given):
+    """The board with this text, None if it is that of none, whatever it is."""
+    if not isinstance(given, str):
+        return None
+    try:
+        board = _board_told(given)
+    except (InvalidNumber, InvalidButtons, InvalidTies):
+        return None
+    # What stands in another order or form was understood, but is not how the board is written.
+    return board if board.text == given else None
 
 
 def check_board(given):
@@ -171,7 +177,7 @@ def check_known(board, name):
 def with_button(board, name, turn):
     """The board with this button too, or in the place of the one with this name."""
     check_board(board)
-    if not is_name(name):
+    if not is_button_name(name):
         raise InvalidName(name)
     check_board_and_turn(board, turn)
     buttons = [button for button in board.buttons if button[0] != name]
@@ -201,7 +207,7 @@ def named(board, names):
     if not isinstance(names, tuple) or len(names) != len(board.names):
         raise InvalidNames(None)
     for index, name in enumerate(names):
-        if not is_name(name) or name in names[:index]:
+        if not is_button_name(name) or name in names[:index]:
             raise InvalidNames(index)
     buttons = [(name, button[1]) for name, button in zip(names, board.buttons)]
     return Board(board.size, tuple(buttons), board.ties)

@@ -2,9 +2,9 @@
 
 from seatbuttons.boards import check_board, check_board_and_turn, check_two_boards
 from seatbuttons.checks import are_unlike_places, check_places, is_integer, is_pair
-from seatbuttons.errors import InvalidMaking, InvalidNumber, TooMany
+from seatbuttons.errors import InvalidNumber, TooMany
 from seatbuttons.limits import MOST_TURNS
-from seatbuttons.makings import check_making, row_of_steps, turns_of_steps
+from seatbuttons.makings import check_making, is_making, row_of_steps, turns_of_steps
 from seatbuttons.towers import count_turns, tower_of, tower_with, whole_tower
 from seatbuttons.unchecked import one_then, product_of, renamed_by, staying
 
@@ -206,9 +206,7 @@ def is_chain(board, value):
         return False
     if not isinstance(levels, tuple) or len(levels) != len(line):
         return False
-    try:
-        check_making(board, steps)
-    except InvalidMaking:
+    if not is_making(board, steps):
         return False
     turns = turns_of_steps(board, steps)
     return all([_is_level(level, line[at], turns, line[:at]) for at, level in enumerate(levels)])

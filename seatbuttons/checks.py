@@ -70,13 +70,35 @@ def are_signs(given, signs):
 
 
 def is_name(given):
-    """Whether it is a name that a button may have; `tie` is none."""
-    return are_signs(given, LETTERS) and 1 <= len(given) <= MOST_LETTERS and given != "tie"
+    """Whether it is a name, of whatever has names; `tie` is one."""
+    return are_signs(given, LETTERS) and 1 <= len(given) <= MOST_LETTERS
+
+
+def is_button_name(given):
+    """Whether it is a name that a button may have."""
+    return is_name(given) and given != "tie"
 
 
 def is_standing(given, size):
     """Whether it is a standing of so many places."""
     return are_signs(given, LETTERS + "-") and len(given) == size
+
+
+def is_any_standing(given):
+    """Whether it is a standing of any number of places."""
+    return are_signs(given, LETTERS + "-") and 1 <= len(given) <= MOST_PLACES
+
+
+def are_ascending_places(given, size):
+    """Whether it is an ascending tuple of places, `()` too."""
+    if not isinstance(given, tuple):
+        return False
+    least = 0
+    for place in given:
+        if not is_integer(place, least, size - 1):
+            return False
+        least = place + 1
+    return True
 
 
 def check_number(given, least, most):
@@ -147,7 +169,7 @@ def check_standing(given, size):
 
 def check_any_standing(given):
     """Raises an error if it is a standing of no number of places."""
-    if not are_signs(given, LETTERS + "-") or not 1 <= len(given) <= MOST_PLACES:
+    if not is_any_standing(given):
         raise InvalidStanding(given)
 
 

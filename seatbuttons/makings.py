@@ -25,6 +25,15 @@ def check_making(board, given):
             raise InvalidMaking(index)
 
 
+def is_making(board, given):
+    """Whether any value is a making for the board."""
+    try:
+        check_making(board, given)
+    except InvalidMaking:
+        return False
+    return True
+
+
 def turns_of_steps(board, steps):
     """The list of the turns that the steps of a making make."""
     turns = []

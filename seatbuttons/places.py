@@ -15,7 +15,7 @@ def reaches(board):
     return reaches_of(board.size, button_turns(board))
 
 
-def _search_from(board, places):
+def search_places(board, places):
     """All tuples of places to which the turns of a board lead these, place by place."""
     presses = single_presses(board)
     # There are no more tuples of one to three places.
@@ -26,13 +26,13 @@ def _search_from(board, places):
 def distance(board, place, goal):
     """The least number of single presses that lead the place to the goal, None if none do."""
     check_board_place_and_goal(board, place, goal)
-    return fewest_to(_search_from(board, (place,)), (goal,))
+    return fewest_to(search_places(board, (place,)), (goal,))
 
 
 def row_to(board, place, goal):
     """Any row of so few single presses, None if none do."""
     check_board_place_and_goal(board, place, goal)
-    return steps_found(_search_from(board, (place,)), (goal,))
+    return steps_found(search_places(board, (place,)), (goal,))
 
 
 def _check_places_and_goals(board, places, goals):
@@ -44,13 +44,13 @@ def _check_places_and_goals(board, places, goals):
 def distance_leading(board, places, goals):
     """The least number of single presses that lead each place to its goal, None if none do."""
     _check_places_and_goals(board, places, goals)
-    return fewest_to(_search_from(board, places), goals)
+    return fewest_to(search_places(board, places), goals)
 
 
 def row_leading(board, places, goals):
     """Any row of so few single presses, None if none do."""
     _check_places_and_goals(board, places, goals)
-    return few_steps_found(_search_from(board, places), goals)
+    return few_steps_found(search_places(board, places), goals)
 
 
 def count_reaches(board, number):
@@ -58,7 +58,7 @@ def count_reaches(board, number):
     check_board(board)
     check_number(number, 1, MOST_LED)
     tuples = list(permutations(range(board.size), number))
-    return count_lots(tuples, lambda places: _search_from(board, places))
+    return count_lots(tuples, lambda places: search_places(board, places))
 
 
 def fold(board):

@@ -2,7 +2,7 @@
 
 from seatbuttons.boards import check_board
 from seatbuttons.checks import DIGITS, LETTERS, are_signs, check_number, check_place, check_standing
-from seatbuttons.checks import is_integer, is_pair
+from seatbuttons.checks import is_integer, is_name, is_pair
 from seatbuttons.errors import InvalidRow, InvalidText
 from seatbuttons.limits import MOST_PRESSES, MOST_TIMES
 from seatbuttons.unchecked import along, led_back, number_back, one_then, raised_to, rings_in, staying, things_of
@@ -10,18 +10,25 @@ from seatbuttons.unchecked import along, led_back, number_back, one_then, raised
 MOST_DIGITS = 31
 
 
-def is_press(board, given):
-    """Whether it is a press of the board."""
-    if not is_pair(given) or not isinstance(given[0], str) or given[0] not in board.names:
+def is_press_of(names, given):
+    """Whether it is a press of a button with one of these names."""
+    if not is_pair(given) or not isinstance(given[0], str) or given[0] not in names:
         return False
     return is_integer(given[1], -MOST_TIMES, MOST_TIMES) and given[1] != 0
+
+
+def is_row_of(names, given):
+    """Whether it is a row of presses of buttons with these names."""
+    if not isinstance(given, tuple) or len(given) > MOST_PRESSES:
+        return False
+    return all([is_press_of(names, press) for press in given])
 
 
 def check_row(board, given):
     if not isinstance(given, tuple):
         raise InvalidRow(None)
     for index, press in enumerate(given):
-        if index >= MOST_PRESSES or not is_press(board, press):
+        if index >= MOST_PRESSES or not is_press_of(board.names, press):
             raise InvalidRow(index)
 
 
@@ -54,18 +61,19 @@ def _text_with(row):
     return " ".join([name if number == 1 else f"{name}{number}" for name, number in row])
 
 
+def row_in(text):
+    """The row with this text, of whatever names, None if it is that of none."""
+    row = () if text == "-" else tuple([_press_in(word) for word in text.split(" ")])
+    names = [name for name, _ in row if is_name(name)]
+    # A number with needless signs was understood, but is not how the row is written.
+    return row if is_row_of(names, row) and _text_with(row) == text else None
+
+
 def row_of(board, text):
     """The row of the board with this text."""
     check_board(board)
-    if not isinstance(text, str):
-        raise InvalidText(text)
-    row = () if text == "-" else tuple([_press_in(word) for word in text.split(" ")])
-    try:
-        check_row(board, row)
-    except InvalidRow:
-        raise InvalidText(text) from None
-    # A number with needless signs was understood, but is not how the row is written.
-    if _text_with(row) != text:
+    row = row_in(text) if isinstance(text, str) else None
+    if row is None or not is_row_of(board.names, row):
         raise InvalidText(text)
     return row
 

@@ -18,17 +18,21 @@ def turned(standing, turn):
     return things_of(standing, led_back(turn))
 
 
-def _search_from(standing, presses):
-    """All standings that are reached by these presses, told with their turns."""
+def search_from(standing, presses, most):
+    """All standings that are reached by these presses, told with their turns; TooMany if they are more."""
     backs = [(press, led_back(turn)) for press, turn in presses]
-    return search(standing, lambda here: [(press, things_of(here, back)) for press, back in backs], MOST_REACHED)
+    return search(standing, lambda here: [(press, things_of(here, back)) for press, back in backs], most)
+
+
+def _search_by_singles(board, standing):
+    return search_from(standing, single_presses(board), MOST_REACHED)
 
 
 def _reached_from(board, standing):
     check_board(board)
     check_standing(standing, board.size)
     # Presses the other way lead nowhere else, they only lead there sooner.
-    return _search_from(standing, list(board.buttons))
+    return search_from(standing, list(board.buttons), MOST_REACHED)
 
 
 def count_reached(board, standing):
@@ -67,19 +71,19 @@ def goes(board, one, other):
 def row_between(board, one, other):
     """Any row of fewest single presses that makes the other standing of the one, None if none does."""
     _check_two_standings(board, one, other)
-    return few_steps_found(_search_from(one, single_presses(board)), other)
+    return few_steps_found(_search_by_singles(board, one), other)
 
 
 def presses_between(board, one, other):
     """How few single presses make the other standing of the one, None if none do."""
     _check_two_standings(board, one, other)
-    return fewest_to(_search_from(one, single_presses(board)), other)
+    return fewest_to(_search_by_singles(board, one), other)
 
 
 def farthest_standings(board, one):
     """The ascending tuple of the standings that are reached from the one by the most presses."""
     check_board(board)
     check_standing(one, board.size)
-    found = _search_from(one, single_presses(board))
+    found = _search_by_singles(board, one)
     most = max([told[2] for told in found.values()])
     return tuple(sorted([standing for standing, told in found.items() if told[2] == most]))

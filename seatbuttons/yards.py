@@ -35,7 +35,7 @@ def _search_empty(board, home):
     return search(home, lambda empty: _places_behind(empty, presses, tied), board.size)
 
 
-def _slid(standing, place, goal):
+def slid(standing, place, goal):
     """The standing behind a slide from a place to an empty one."""
     signs = list(standing)
     signs[goal] = signs[place]
@@ -47,7 +47,7 @@ def _standings_behind(standing, backs, tied):
     """The pairs of a step that can be done there, and the standing that it makes."""
     empty = standing.index(EMPTY)
     steps = [(press, things_of(standing, back)) for press, back in backs]
-    return steps + [((SLIDE, place), _slid(standing, place, empty)) for place in tied[empty]]
+    return steps + [((SLIDE, place), slid(standing, place, empty)) for place in tied[empty]]
 
 
 def _search_from(board, standing):
@@ -151,7 +151,7 @@ def _behind(board, tied, standing, step):
     word, told = step
     empty = standing.index(EMPTY)
     if word == SLIDE and is_integer(told, 0, board.size - 1) and told in tied[empty]:
-        return _slid(standing, told, empty)
+        return slid(standing, told, empty)
     if word in board.names and is_integer(told, -1, 1) and told != 0:
         return things_of(standing, led_back(_turn_of_step(board, step, empty)))
     return None

@@ -94,6 +94,30 @@ raises InvalidSteps(index=0)
 [((0, 1), (0, 2)), (0, 1), (2, 0, 1), (0, 1, 0, 2, 1, 0), 16, (2, 1, 2, 0, 1, 2), 15, 1]
 >>> [is_below((1, 0, 2), (1, 2, 0)), is_below((1, 2, 0), (2, 0, 1)), is_beginning((1, 0, 2), (2, 0, 1)), is_beginning((0, 2, 1), (2, 0, 1)), common_beginning((2, 0, 1), (2, 1, 0)), just_below((2, 1, 0))]
 [True, False, True, False, (2, 0, 1), ((1, 2, 0), (2, 0, 1))]
+>>> from seatbuttons.swaps import fewest_swaps, hub_swaps, swap_rows, tied_swaps
+>>> line = Board(4, (), ((0, 1), (1, 2), (2, 3)))
+>>> [fewest_swaps((1, 2, 0)), swap_rows((1, 2, 0)), swap_rows((1, 0, 3, 2)), hub_swaps((1, 2, 0), 0), hub_swaps((0, 2, 1), 0), len(tied_swaps(line, top)), tied_swaps(line, (0, 1, 3, 2)), tied_swaps(board, (0, 2, 1)), tied_swaps(board, (0, 1, 2))]
+[2, 3, 2, 2, 3, 6, ((2, 3),), None, ()]
+>>> from seatbuttons.fewest import counted_rows, farthest, fewest, first_row, layer, near, spread, told_cost
+>>> [spread(square), farthest(square), fewest(square, (2, 3, 0, 1)), first_row(square, (2, 3, 0, 1)), first_row(square, (3, 2, 1, 0)), layer(square, 1), layer(square, 9)]
+[(1, 3, 3, 1), ((3, 2, 1, 0),), 2, (('r', 2),), (('f', 1), ('r', 2)), ((1, 0, 3, 2), (1, 2, 3, 0), (3, 0, 1, 2)), ()]
+>>> [near(square, (3, 2, 1, 0), 2), near(square, (3, 2, 1, 0), 3), told_cost(square, (3, 2, 1, 0), ("r",)), told_cost(square, (3, 2, 1, 0), ("f",)), told_cost(square, (2, 1, 0, 3), ()), counted_rows(square, (0, 1, 2, 3), 2), counted_rows(square, (1, 0, 3, 2), 1)]
+[None, 3, 2, 1, 0, 6, 2]
+>>> from seatbuttons.riddles import Riddle, best_look, board_with, count_fits, fit_at, fits, goals, heaps, left_by, looks_needed, number_of_fit, sure_inside, sure_places, telling_looks, wrong_looks
+>>> wheel = Board(4, (("r", (1, 2, 3, 0)),), ())
+>>> dim = Riddle(wheel, "h", (("aabb", (("h", 1),), "abab"),))
+>>> [count_fits(dim), heaps(dim), goals(dim, 0), goals(dim, 3), sure_places(dim), fit_at(dim, 0), fit_at(dim, 3), left_by(dim, "abab"), left_by(dim, "aaab"), looks_needed(dim, 2), best_look(dim, ("aaab", "abab"))]
+[4, ((0, 1), (2, 3)), (0, 2), (1, 3), (), (0, 2, 1, 3), (2, 0, 3, 1), 1, 2, 1, 'abab']
+>>> clear = dim.with_look(("abab", (("r", 1), ("h", 1)), "aabb"))
+>>> [count_fits(clear), fit_at(clear, 0), sure_places(clear), fits(dim, (2, 0, 3, 1)), looks_needed(Riddle(wheel, "h", ()), 2), looks_needed(Riddle(wheel, "h", ()), 4), number_of_fit(dim, (2, 0, 3, 1))]
+[1, (2, 0, 3, 1), ((0, 2), (1, 0), (2, 3), (3, 1)), True, 2, 1, 3]
+>>> bad = clear.with_look(("abcd", (("h", -1),), "dcba"))
+>>> [count_fits(bad), wrong_looks(bad), wrong_looks(dim), sure_inside(dim, (2, 3, 0, 1)), sure_inside(clear, (1, 0, 2, 3)), sure_inside(Riddle(wheel, "h", ()), (1, 0, 2, 3)), board_with(clear, (2, 0, 3, 1)).names]
+[0, ((2,), (0, 1)), ((),), True, True, False, ('h', 'r')]
+>>> from seatbuttons.mazes import Maze, count_guesses, guesses, sure_turns
+>>> maze = Maze(Board(3, (), ()), ("h",), (("abc", (("h", 2),), "cab"),))
+>>> [guesses(maze), sure_turns(maze), count_guesses(Maze(Board(3, (), ()), ("g", "h"), (("abc", (("g", 1), ("h", 1)), "abc"),)))]
+[(((2, 0, 1),),), ((2, 0, 1),), 6]
 """
 
 

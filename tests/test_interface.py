@@ -37,10 +37,26 @@ FUNCTIONS = {
     "sorting": """crossings(turn) first_way(turn) turn_of_way(size,way) how_many_ways(turn) nth_way(turn,index)
         index_of_way(size,way) is_below(one,other) is_beginning(one,other) common_beginning(one,other)
         just_below(turn)""",
+    "swaps": "fewest_swaps(turn) swap_rows(turn) hub_swaps(turn,hub) tied_swaps(board,turn)",
+    "fewest": """fewest(board,turn) first_row(board,turn) spread(board) farthest(board) layer(board,number)
+        told_cost(board,turn,names) counted_rows(board,turn,number) near(board,turn,most)""",
+    "riddles": """count_fits(riddle) fits(riddle,turn) heaps(riddle) goals(riddle,place) sure_places(riddle)
+        fit_at(riddle,number) number_of_fit(riddle,turn) left_by(riddle,standing) best_look(riddle,standings)
+        looks_needed(riddle,signs) telling_looks(riddle,signs) wrong_looks(riddle) board_with(riddle,turn)
+        sure_inside(riddle,turn)""",
+    "mazes": "guesses(maze) count_guesses(maze) sure_turns(maze)",
 }
 
-CLASSES = {"boards": {"Board": "__init__(self,size,buttons,ties) read(text) turn(self,name)"}}
-PROPERTIES = {"boards": {"Board": "size buttons ties names text"}}
+CLASSES = {
+    "boards": {"Board": "__init__(self,size,buttons,ties) read(text) turn(self,name)"},
+    "riddles": {"Riddle": "__init__(self,board,name,looks) with_look(self,look) without_look(self,index)"},
+    "mazes": {"Maze": "__init__(self,board,names,looks)"},
+}
+PROPERTIES = {
+    "boards": {"Board": "size buttons ties names text"},
+    "riddles": {"Riddle": "board name looks size"},
+    "mazes": {"Maze": "board names looks"},
+}
 
 
 def module_of(name):

@@ -112,6 +112,13 @@ def six_places():
             board_of((1, 2, 3, 4, 0, 5), (0, 4, 3, 2, 1, 5), (5, 1, 4, 3, 2, 0))]
 
 
+def just_5000():
+    """A board of 20 places with 5000 turns: four rings of five, of which all but one can be turned over."""
+    lots = [tuple(range(start, start + 5)) for start in (0, 5, 10, 15)]
+    return board_of(*[turn_of(20, (lot,)) for lot in lots],
+                    *[turn_of(20, ((lot[1], lot[4]), (lot[2], lot[3]))) for lot in lots[1:]])
+
+
 def just_20000():
     """A board of 22 places with 20000 turns: four rings of five that can be turned over, and a swap."""
     turns = []

@@ -144,6 +144,17 @@ class Telling(unittest.TestCase):
         told = self.raised(error, call, *arguments, **named)
         self.assertIs(told.given, given)
 
+    def equals_itself_alone(self, thing, *others):
+        """The object equals itself, and neither others nor what says that it equals everything."""
+        self.assertIs(thing == thing, True)
+        self.assertIs(thing != thing, False)
+        for other in [*NO_VALUES, 0, (), *others]:
+            self.assertIs(thing == other, False)
+            self.assertIs(thing != other, True)
+        for other in others:
+            self.assertIs(other == thing, False)
+            self.assertIs(other != thing, True)
+
     def takes(self, call, *names):
         """The arguments have these names, none has a default value, all go by position or name."""
         parameters = list(inspect.signature(call).parameters.values())

@@ -118,6 +118,26 @@ raises InvalidSteps(index=0)
 >>> maze = Maze(Board(3, (), ()), ("h",), (("abc", (("h", 2),), "cab"),))
 >>> [guesses(maze), sure_turns(maze), count_guesses(Maze(Board(3, (), ()), ("g", "h"), (("abc", (("g", 1), ("h", 1)), "abc"),)))]
 [(((2, 0, 1),),), ((2, 0, 1),), 6]
+>>> from seatbuttons.benches import Bench
+>>> bench = Bench(mixed, "-abc")
+>>> [bench.press("a", 3), bench.standing, bench.slide(1, 0), bench.standing, bench.do((("a", 1),)), bench.standing, bench.undo(), bench.standing, bench.deeds]
+[None, '-bac', None, 'b-ac', None, 'ba-c', None, 'b-ac', (('press', 'a', 3), ('slide', 1, 0))]
+>>> [bench.play((("slide", 2, 1), ("press", "a", 1))), bench.standing, bench.changes]
+[None, 'b-ac', 4]
+>>> bench.slide(3, 1)
+raises NoSlide()
+>>> from seatbuttons.console import Console
+>>> console = Console()
+>>> [console.run("board q 4 ; f 1 0 3 2 ; r 1 2 3 0"), console.run("standing s aabb"), console.run("order q"), console.run("press q s r"), console.run("count q s"), console.run("blocks q 0"), console.run("claim order q 8"), console.run("turn q r f")]
+['ok', 'ok', '8', 'baab', '4', '0 , 0 2 , 0 1 2 3', 'ok', '0 3 2 1']
+>>> console.run("board q 4 ; r 1 2 3 0")
+raises Broken(index=0, shown=4)
+>>> from seatbuttons.certificates import certify_block, certify_goes, certify_inside, certify_led, certify_order, certify_ring, certify_sure
+>>> from seatbuttons.checker import accepts
+>>> [certify_inside(square, (1, 0, 2, 3))[0][0], certify_order(square)[0][2], certify_led(two, 0, 2), certify_block(six, (0, 3))[0][0], certify_block(six, (0, 1))[0][0], certify_goes(square, "aabb", "abab")[0], certify_ring((2, 1), (3,)), certify_sure(clear, 0)[0][4:]]
+['outside', 8, (('not led', '5 ; a 1 0 2 3 4 ; b 0 1 3 4 2', 0, 2), (0, 1)), 'block', 'no block', ('never', '4 ; f 1 0 3 2 ; r 1 2 3 0', 'aabb', 'abab'), (('no ring', (2, 1), (3,)), 'sign'), (0, 2)]
+>>> [accepts(("inside", square.text, (0, 3, 2, 1)), ("r", "f", (0, 1))), accepts(("goes", square.text, "aabb", "abba"), (("r", -1),)), accepts(("goes", square.text, "aabb", "abab"), (("r", 1),)), accepts(("no block", six.text, (0, 1)), (("a", 1),))]
+[True, True, False, True]
 """
 
 

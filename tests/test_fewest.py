@@ -20,7 +20,8 @@ from tests.walks import layers, singles, steps_of
 
 SQUARE = Board(4, (("f", (1, 0, 3, 2)), ("r", (1, 2, 3, 0))), ())
 # Buttons with one turn, with the turn back, with a turn that is its own way back, and with none.
-MANY = Board(4, (("z", (1, 2, 3, 0)), ("b", (0, 1, 2, 3)), ("y", (1, 2, 3, 0)), ("a", (3, 0, 1, 2)), ("c", (1, 0, 2, 3))), ())
+MANY = Board(4, (("z", (1, 2, 3, 0)), ("b", (0, 1, 2, 3)), ("y", (1, 2, 3, 0)), ("a", (3, 0, 1, 2)),
+                 ("c", (1, 0, 2, 3))), ())
 
 
 def after_each(board):
@@ -160,7 +161,8 @@ class Rows(Telling):
         self.gives((("r", 2),), first_row, SQUARE, (2, 3, 0, 1))
         self.gives((("f", 1), ("r", 2)), first_row, SQUARE, (3, 2, 1, 0))
         backwards = board_of((1, 2, 3, 0), (1, 0, 2, 3), names="ba")
-        self.gives((("a", 1), ("b", -1), ("a", 1)), first_row, backwards, one_then(one_then((1, 0, 2, 3), (3, 0, 1, 2)), (1, 0, 2, 3)))
+        self.gives((("a", 1), ("b", -1), ("a", 1)), first_row, backwards,
+                   one_then(one_then((1, 0, 2, 3), (3, 0, 1, 2)), (1, 0, 2, 3)))
 
     def test_long_rows(self):
         self.gives((("a", 12),), first_row, ring(24), tuple((at + 12) % 24 for at in range(24)))
@@ -208,7 +210,8 @@ class Rows(Telling):
                     self.gives(made.count(turn), counted_rows, board, turn, number)
 
     def test_many_counted_rows(self):
-        self.gives(math.comb(40, 20), counted_rows, board_of(turn_of(24, ((0, 1, 2, 3, 4), tuple(range(5, 24))))), staying(24), 40)
+        self.gives(math.comb(40, 20), counted_rows, board_of(turn_of(24, ((0, 1, 2, 3, 4), tuple(range(5, 24))))),
+                   staying(24), 40)
         self.gives(2 ** 40, counted_rows, board_of(staying(24)), staying(24), 40)
         self.gives(16 ** 40, counted_rows, board_of(*[(0,)] * 8), (0,), 40)
         self.gives(0, counted_rows, Board(24, (), ()), staying(24), 1)
@@ -371,7 +374,8 @@ class Wrong(Telling):
             self.tells_in_order(call, (great, staying(8)), *turns)
         self.tells_in_order(layer, (SQUARE, 0), board, (1, -1, InvalidNumber(-1)))
         self.tells_in_order(layer, (great, 0), (1, -1, InvalidNumber(-1)), (1, 1, TooMany(20000)))
-        for call, good, last in ((told_cost, (), (2, ("x",), InvalidNames(0))), (counted_rows, 0, (2, 41, InvalidNumber(41)))):
+        for call, good, last in ((told_cost, (), (2, ("x",), InvalidNames(0))),
+                                 (counted_rows, 0, (2, 41, InvalidNumber(41)))):
             self.tells_in_order(call, (great, staying(8), good), board, (1, wrong, InvalidTurn(wrong)), last, *turns)
         self.tells_in_order(near, (SQUARE, staying(4), 0), board, (1, wrong, InvalidTurn(wrong)),
                             (2, 13, InvalidNumber(13)), (1, (0,), OtherSize()))

@@ -45,17 +45,30 @@ FUNCTIONS = {
         looks_needed(riddle,signs) telling_looks(riddle,signs) wrong_looks(riddle) board_with(riddle,turn)
         sure_inside(riddle,turn)""",
     "mazes": "guesses(maze) count_guesses(maze) sure_turns(maze)",
+    "checker": "accepts(claim,paper)",
+    "certificates": """certify_inside(board,turn) certify_order(board) certify_led(board,place,goal)
+        certify_block(board,places) certify_within(one,other) certify_alike(one,other) certify_together(board,turn)
+        certify_goes(board,one,other) certify_reached(board,standing) certify_steps(board,one,other)
+        certify_fewest(board,turn) certify_spread(board) certify_ring(one,other) certify_sure(riddle,place)""",
 }
 
 CLASSES = {
     "boards": {"Board": "__init__(self,size,buttons,ties) read(text) turn(self,name)"},
     "riddles": {"Riddle": "__init__(self,board,name,looks) with_look(self,look) without_look(self,index)"},
     "mazes": {"Maze": "__init__(self,board,names,looks)"},
+    "benches": {"Bench": """__init__(self,board,standing) press(self,name,number) do(self,row) slide(self,place,goal)
+        play(self,deeds) undo(self) trial(self) tried(self,action)"""},
+    "shelves": {"Shelf": """__init__(self) put(self,name,thing) thing(self,name) drop(self,name) claim(self,claim)
+        lift(self,index) undo(self) trial(self) tried(self,action) __contains__(self,x)"""},
+    "console": {"Console": "__init__(self) run(self,command)"},
 }
 PROPERTIES = {
     "boards": {"Board": "size buttons ties names text"},
     "riddles": {"Riddle": "board name looks size"},
     "mazes": {"Maze": "board names looks"},
+    "benches": {"Bench": "board standing deeds changes"},
+    "shelves": {"Shelf": "names claims changes"},
+    "console": {"Console": "shelf"},
 }
 
 

@@ -30,6 +30,7 @@ BARRED_NAMES = """register mro elements open input law version_info with_traceba
     globals help id locals os quit super type vars sys _cold _outside _record _written_out _member_names""".split()
 BARRED_BEGINNINGS = ("__", "_wall", "_pe_", "_dcw_", "_enum_", "_cm_", "_twin_re_", "_lay_", "_law_", "_stub_", "_sre")
 CHANGING = "append clear extend insert pop remove reverse setdefault update add discard".split()
+DUNDERS = ("__init__", "__eq__", "__str__", "__repr__", "__contains__", "__enter__", "__exit__")
 TAKING_LISTS = "any all min max sum sorted".split()
 
 
@@ -150,7 +151,7 @@ class Names(unittest.TestCase):
             attributes = [node.attr for node in ast.walk(tree) if isinstance(node, ast.Attribute)]
             defined = [node.name for node in ast.walk(tree) if isinstance(node, ast.FunctionDef)]
             for name in bound_names(tree) + attributes + defined:
-                if name not in ("__init__", "__eq__", "__str__", "__repr__"):
+                if name not in DUNDERS:
                     self.assertNotIn(name, BARRED_NAMES, path)
                     self.assertFalse(name.startswith(BARRED_BEGINNINGS), (path, name))
 
@@ -188,6 +189,35 @@ class Classes(unittest.TestCase):
                 told = node.body[-1].value
                 plain = isinstance(told, (ast.Constant, ast.JoinedStr)) or called_name(told) in ("str", "repr", "join")
                 self.assertTrue(plain, (holder.name, node.name))
+
+    def test_asking_changes_nothing(self):
+        for holder, node in methods():
+            if node.name == "__contains__":
+                self.assertEqual([type(row) for row in node.body], [ast.Return], holder.name)
+
+    def test_ends_of_trials(self):
+        """Behind the rows of a `with` nothing is called and nothing can be wrong: attributes are assigned."""
+        for holder, node in methods():
+            if node.name == "__exit__":
+                self.assertEqual([argument.arg for argument in node.args.args], ["self", "kind", "value", "trace"])
+                for part in [part for row in node.body for part in ast.walk(row)]:
+                    kinds = (ast.Assign, ast.If, ast.BoolOp, ast.UnaryOp, ast.Compare, ast.Attribute, ast.Name, ast.Constant)
+                    signs = (ast.expr_context, ast.boolop, ast.unaryop, ast.cmpop)
+                    self.assertIsInstance(part, kinds + signs, holder.name)
+                read = [part.id for part in ast.walk(node) if isinstance(part, ast.Name)]
+                self.assertFalse({"value", "trace"} & set(read))
+
+    def test_nothing_is_returned_within_init(self):
+        for holder, node in methods():
+            if node.name == "__init__":
+                barred = [part for part in ast.walk(node) if isinstance(part, (ast.Return, ast.Lambda))]
+                self.assertEqual(barred, [], holder.name)
+
+    def test_no_property_is_assigned(self):
+        titles = [node.name for _, node in methods() if is_property(node)]
+        for path, node in nodes(ast.Attribute):
+            if isinstance(node.ctx, ast.Store):
+                self.assertNotIn(node.attr, titles, path)
 
     def test_names_of_properties(self):
         titles = [node.name for _, node in methods() if is_property(node)]
@@ -281,11 +311,16 @@ class Expressions(unittest.TestCase):
                 self.assertIsInstance(node.right, ast.Constant, path)
                 self.assertIn(node.right.value, range(65), path)
 
-    def test_is_stands_beside_none_true_and_false(self):
+    def test_is_stands_beside_none_true_false_and_self(self):
         for path, node in nodes(ast.Compare):
             for sign, right in zip(node.ops, node.comparators):
-                if isinstance(sign, (ast.Is, ast.IsNot)):
+                if isinstance(sign, (ast.Is, ast.IsNot)) and getattr(node.left, "id", None) != "self":
                     self.assertIsInstance(right, ast.Constant, (path, node.lineno))
+
+    def test_no_method_is_read_off_a_class(self):
+        titles = [node.name for _, node in nodes(ast.ClassDef)]
+        for path, node in nodes(ast.Attribute):
+            self.assertNotIn(getattr(node.value, "id", None), titles, (path, node.lineno))
 
     def test_methods_of_builtin_values(self):
         own = [node.name for _, node in methods()]

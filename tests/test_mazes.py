@@ -41,7 +41,8 @@ def model(maze):
 
 def some_mazes():
     rng = random.Random(70)
-    boards = [Board(1, (), ()), Board(2, (), ()), ring(3), Board(3, (("i", (1, 0, 2)),), ((0, 1),)), WHEEL, Board(4, (), ())]
+    boards = [Board(1, (), ()), Board(2, (), ()), ring(3), Board(3, (("i", (1, 0, 2)),), ((0, 1),)), WHEEL,
+              Board(4, (), ())]
     found = []
     for board in boards:
         for names in (("h",), ("g", "h"), ("b", "zz")):
@@ -74,7 +75,8 @@ class Guesses(Telling):
             sure = {len({guess[at] for guess in found}) == 1 for at in range(len(maze.names))} if found else {None}
             sorts.add((len(maze.names), *sorted(sure, key=str)))
         # Nothing fits, nothing is sure, one of two is sure, all is sure.
-        self.assertTrue({(1, None), (1, False), (1, True), (2, None), (2, False), (2, False, True), (2, True)} <= sorts, sorts)
+        self.assertTrue({(1, None), (1, False), (1, True), (2, None), (2, False), (2, False, True),
+                         (2, True)} <= sorts, sorts)
 
     def test_five_places(self):
         rng = random.Random(71)
@@ -88,7 +90,8 @@ class Guesses(Telling):
             self.assertEqual(list(found), sorted(found))
             kept = set(found)
             for guess in itertools.islice(itertools.product(all_turns(5), repeat=len(names)), 0, None, 37):
-                so = all(behind_row(board, dict(zip(names, guess)), row, before) == after for before, row, after in looks)
+                so = all(behind_row(board, dict(zip(names, guess)), row, before) == after for before, row,
+                         after in looks)
                 self.assertEqual(so, guess in kept)
 
     def test_free_mazes(self):
@@ -107,7 +110,8 @@ class Guesses(Telling):
         self.gives(4, count_guesses, Maze(empty, ("h",), (("abc", (("h", -12), ("h", 10)), "abc"),)))
         self.gives(0, count_guesses, Maze(empty, ("h",), (("abc", (("h", 2),), "acb"),)))
         self.gives(6, count_guesses, Maze(empty, ("h",), (("abc", (("h", 12),), "abc"),)))
-        self.gives((None, (0, 1, 2)), sure_turns, Maze(empty, ("g", "h"), (("abc", (("g", 3), ("h", 7), ("g", -3)), "abc"),)))
+        self.gives((None, (0, 1, 2)), sure_turns, Maze(empty, ("g", "h"),
+                                                       (("abc", (("g", 3), ("h", 7), ("g", -3)), "abc"),)))
 
     def test_looks_without_hidden_presses(self):
         self.gives(24, count_guesses, Maze(WHEEL, ("h",), (("abcd", (("r", 1),), "dabc"), ("ab--", (), "ab--"))))
@@ -146,14 +150,8 @@ class Objects(Telling):
         self.assertTrue(maze)
 
     def test_equal_to_itself_alone(self):
-        maze, other = Maze(WHEEL, ("h",), ()), Maze(WHEEL, ("h",), ())
-        self.assertTrue(maze == maze)
-        self.assertFalse(maze != maze)
-        self.assertTrue(maze != other)
-        self.assertFalse(maze == other)
-        for value in (None, 0, "h", WHEEL, Riddle(WHEEL, "h", ())):
-            self.assertFalse(maze == value)
-            self.assertFalse(value == maze)
+        self.equals_itself_alone(Maze(WHEEL, ("h",), ()), Maze(WHEEL, ("h",), ()), WHEEL, WHEEL.text,
+                                 Riddle(WHEEL, "h", ()))
 
     def test_all_numbers(self):
         row = tuple(("h", number) for number in HIDDEN)
@@ -167,9 +165,11 @@ class Objects(Telling):
         self.assertEqual(vars(maze), before)
 
 
-NO_ROWS = NO_VALUES + [0, "h", [("h", 1)], ("h", 1), (("h",),), (("h", 1, 1),), (["h", 1],), (("h", "1"),), (("x", 1),), (("tie", 1),)]
+NO_ROWS = NO_VALUES + [0, "h", [("h", 1)], ("h", 1), (("h",),), (("h", 1, 1),), (["h", 1],), (("h", "1"),),
+                       (("x", 1),), (("tie", 1),)]
 NO_ROWS += [(("h", number),) for number in (0, 13, -13, 10 ** 30, -10 ** 30)] + [(("h", value),) for value in NO_VALUES]
-NO_ROWS += [(("r", number), ("h", 1)) for number in (0, 10 ** 30 + 1, -10 ** 30 - 1)] + [(("r", value),) for value in NO_VALUES]
+NO_ROWS += [(("r", number), ("h", 1)) for number in (0, 10 ** 30 + 1,
+                                                     -10 ** 30 - 1)] + [(("r", value),) for value in NO_VALUES]
 NO_ROWS += [(("h", 1),) * 2001, (("r", 1),) * 2001, (("h", 1), None), (nested(17),), ((),)]
 
 
@@ -191,7 +191,8 @@ class Wrong(Telling):
     def test_wrong_names(self):
         for wrong in NO_VALUES + [0, (), "h", ["h"], {"h": 1}]:
             self.tells(InvalidNames(None), Maze, WHEEL, wrong, ())
-        some = [value for value in NO_VALUES if not isinstance(value, str)] + [0, (), ("h",), "", "tie", "r", "H", "abcdefghi", "h "]
+        some = [value for value in NO_VALUES if not isinstance(value,
+                                                               str)] + [0, (), ("h",), "", "tie", "r", "H", "abcdefghi", "h "]
         for wrong in some:
             self.tells(InvalidNames(0), Maze, WHEEL, (wrong,), ())
             self.tells(InvalidNames(0), Maze, WHEEL, (wrong, wrong), ())
@@ -228,9 +229,11 @@ class Wrong(Telling):
         self.assertEqual(Maze(whole(5), ("h",), ()).board.size, 5)
 
     def test_order_of_errors(self):
-        self.tells_in_order(Maze, (WHEEL, ("h",), ()), (0, 1, NotABoard(1)), (1, (), InvalidNames(None)), (2, (1,), InvalidLooks(0)))
+        self.tells_in_order(Maze, (WHEEL, ("h",), ()), (0, 1, NotABoard(1)), (1, (), InvalidNames(None)),
+                            (2, (1,), InvalidLooks(0)))
         six = Board(6, (), ())
-        self.tells_in_order(Maze, (WHEEL, ("h",), ()), (1, ("tie",), InvalidNames(0)), (2, (None,), InvalidLooks(0)), (0, six, TooMany(5)))
+        self.tells_in_order(Maze, (WHEEL, ("h",), ()), (1, ("tie",), InvalidNames(0)), (2, (None,), InvalidLooks(0)),
+                            (0, six, TooMany(5)))
 
 
 if __name__ == "__main__":

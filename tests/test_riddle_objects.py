@@ -12,7 +12,7 @@ from seatbuttons.riddles import Riddle, best_look, board_with, count_fits, fit_a
 from seatbuttons.riddles import looks_needed, number_of_fit, sure_inside, sure_places, telling_looks, wrong_looks
 
 from tests.groups import board_of, ring
-from tests.support import NO_INTEGERS, NO_PLACES, NO_VALUES, Agreeing, Stubborn, Telling, nested, no_boards, staying
+from tests.support import NO_INTEGERS, NO_PLACES, NO_VALUES, Telling, nested, no_boards, staying
 from tests.support import wrong_standings, wrong_turns
 
 WHEEL = Board(4, (("r", (1, 2, 3, 0)),), ())
@@ -25,9 +25,12 @@ NO_NAMES = [value for value in NO_VALUES if not isinstance(value, str)] + [0, ()
 NO_NAMES += ["", "0", "tie", "r", "H", "h1", "h h", "abcdefghi", "-", " h", "h\n"]
 
 # None of these is a row in which the hidden button h is pressed just once.
-NO_ROWS = NO_VALUES + [0, (), "h", [("h", 1)], (("r", 1),), (("h", 1), ("h", 1)), (("h", 1), ("h", -1)), (("h", 2),), (("h", -2),)]
-NO_ROWS += [(("h", 0),), (("h", 10 ** 30),), (("h", True),), (["h", 1],), (("h",),), (("h", 1, 1),), ("h", 1), (("h", "1"),)]
-NO_ROWS += [(("x", 1), ("h", 1)), (("r", 0), ("h", 1)), (("r", 10 ** 30 + 1), ("h", 1)), (("h", 1), ("r", -10 ** 30 - 1))]
+NO_ROWS = NO_VALUES + [0, (), "h", [("h", 1)], (("r", 1),), (("h", 1), ("h", 1)), (("h", 1), ("h", -1)), (("h", 2),),
+                       (("h", -2),)]
+NO_ROWS += [(("h", 0),), (("h", 10 ** 30),), (("h", True),), (["h", 1],), (("h",),), (("h", 1, 1),), ("h", 1),
+            (("h", "1"),)]
+NO_ROWS += [(("x", 1), ("h", 1)), (("r", 0), ("h", 1)), (("r", 10 ** 30 + 1), ("h", 1)),
+            (("h", 1), ("r", -10 ** 30 - 1))]
 NO_ROWS += [(("r", True), ("h", 1)), (("h", 1), "r"), (("h", 1), ("tie", 1)), (("h", 1), ((), 1)), (("h", 1), None)]
 NO_ROWS += [(("h", 1), (value, 1)) for value in NO_VALUES] + [(("h", value),) for value in NO_VALUES]
 NO_ROWS += [(("r", 1),) * 2000 + (("h", 1),), (("h", 1),) + (("r", 1),) * 2000, (nested(17),), ((("h", 1),),)]
@@ -35,7 +38,8 @@ NO_ROWS += [(("r", 1),) * 2000 + (("h", 1),), (("h", 1),) + (("r", 1),) * 2000, 
 
 def no_looks():
     """Values that are no looks for the hidden button h of the wheel."""
-    wrong = NO_VALUES + [0, (), LOOK[:2], LOOK + (1,), list(LOOK), "aabb", (LOOK,), nested(19), {"aabb": 1}, ("aabb", "h", "abab")]
+    wrong = NO_VALUES + [0, (), LOOK[:2], LOOK + (1,), list(LOOK), "aabb", (LOOK,), nested(19), {"aabb": 1},
+                         ("aabb", "h", "abab")]
     wrong += [(standing, (("h", 1),), "abab") for standing in wrong_standings(4)[:-1]]
     wrong += [("aabb", (("h", 1),), standing) for standing in wrong_standings(4)[:-1]]
     return wrong + [("aabb", row, "abab") for row in NO_ROWS]
@@ -64,18 +68,17 @@ class Objects(Telling):
     def test_equal(self):
         self.assertTrue(DIM == Riddle(Board.read("4 ; r 1 2 3 0"), "h", (("aabb", (("h", 1),), "abab"),)))
         self.assertFalse(DIM != Riddle(WHEEL, "h", (LOOK,)))
-        for other in (Riddle(WHEEL, "i", ()), Riddle(WHEEL, "h", ()), Riddle(WHEEL, "h", (LOOK, LOOK)), Riddle(WHEEL, "h", (OTHER,)),
-                      Riddle(Board(4, WHEEL.buttons, ((0, 1),)), "h", (LOOK,)), Riddle(Board(4, (), ()), "h", (LOOK,)), BAD):
+        for other in (Riddle(WHEEL, "i", ()), Riddle(WHEEL, "h", ()), Riddle(WHEEL, "h", (LOOK, LOOK)),
+                      Riddle(WHEEL, "h", (OTHER,)),
+                      Riddle(Board(4, WHEEL.buttons, ((0, 1),)), "h", (LOOK,)), Riddle(Board(4, (), ()), "h", (LOOK,)),
+                      BAD):
             self.assertFalse(DIM == other)
             self.assertTrue(DIM != other)
         self.assertTrue(Riddle(WHEEL, "i", ()) != Riddle(WHEEL, "h", ()))
 
     def test_equal_to_nothing_else(self):
-        others = [value for value in NO_VALUES if not isinstance(value, (Stubborn, Agreeing))]
-        for other in others + [WHEEL, WHEEL.text, (WHEEL, "h", (LOOK,)), Maze(WHEEL, ("h",), (LOOK,)), Riddle]:
-            self.assertFalse(DIM == other)
-            self.assertFalse(other == DIM)
-            self.assertTrue(DIM != other)
+        self.equals_itself_alone(DIM, BAD, WHEEL, WHEEL.text, (WHEEL, "h", (LOOK,)), Maze(WHEEL, ("h",), (LOOK,)),
+                                 Riddle)
 
     def test_with_look(self):
         riddle = Riddle(WHEEL, "h", ())
@@ -150,7 +153,8 @@ class WrongRiddles(Telling):
         self.tells(InvalidIndex(0), Riddle(WHEEL, "h", ()).without_look, 0)
 
     def test_order_of_errors(self):
-        self.tells_in_order(Riddle, (WHEEL, "h", ()), (0, 1, NotABoard(1)), (1, "tie", InvalidName("tie")), (2, (1,), InvalidLooks(0)))
+        self.tells_in_order(Riddle, (WHEEL, "h", ()), (0, 1, NotABoard(1)), (1, "tie", InvalidName("tie")),
+                            (2, (1,), InvalidLooks(0)))
 
 
 ALONE = (count_fits, heaps, sure_places, wrong_looks)

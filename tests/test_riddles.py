@@ -44,7 +44,8 @@ def some_riddles():
     return found
 
 
-RIDDLES = [(riddle, fitting(riddle.board, riddle.name, riddle.looks, all_turns(riddle.size))) for riddle in some_riddles()]
+RIDDLES = [(riddle, fitting(riddle.board, riddle.name, riddle.looks,
+                            all_turns(riddle.size))) for riddle in some_riddles()]
 
 
 class Fits(Telling):
@@ -128,7 +129,8 @@ class Fits(Telling):
         self.assertEqual(len(sure_places(clear)), 24)
         told = fit_at(clear, 0)
         self.gives(True, fits, clear, told)
-        self.assertEqual(behind_row(board, {"h": told}, (("a", 1), ("h", 1), ("b", 10 ** 30)), LETTERS[:24]), LETTERS[1:24] + "a")
+        self.assertEqual(behind_row(board, {"h": told}, (("a", 1), ("h", 1), ("b", 10 ** 30)), LETTERS[:24]),
+                         LETTERS[1:24] + "a")
 
     def test_2000_presses(self):
         row = (("r", 1),) * 1000 + (("h", -1),) + (("r", 10 ** 30),) * 999
@@ -213,7 +215,8 @@ class Looks(Telling):
         for signs, many in ((2, 5), (3, 3), (4, 3), (5, 2), (23, 2), (24, 1), (25, 1), (26, 1), (27, 1)):
             self.gives(many, looks_needed, free, signs)
             self.check_telling(free, signs, many)
-        for size, signs, many in ((8, 2, 3), (9, 2, 4), (16, 2, 4), (17, 2, 5), (9, 3, 2), (10, 3, 3), (1, 2, 0), (1, 27, 0), (2, 27, 1)):
+        for size, signs, many in ((8, 2, 3), (9, 2, 4), (16, 2, 4), (17, 2, 5), (9, 3, 2), (10, 3, 3), (1, 2, 0),
+                                  (1, 27, 0), (2, 27, 1)):
             self.gives(many, looks_needed, Riddle(Board(size, (), ()), "h", ()), signs)
             self.check_telling(Riddle(Board(size, (), ()), "h", ()), signs, many)
         self.gives((), telling_looks, Riddle(WHEEL, "h", (("abcd", (("h", 1),), "abcd"),)), 2)
@@ -253,7 +256,8 @@ class Wronged(Telling):
 
     def test_eight_and_nine_looks(self):
         right, wrong = ("abcd", (("h", 1),), "abcd"), ("abcd", (("h", 1),), "dcba")
-        self.gives(((5,), (0, 1, 2, 3, 4, 6, 7)), wrong_looks, Riddle(WHEEL, "h", (right,) * 5 + (wrong,) + (right,) * 2))
+        self.gives(((5,), (0, 1, 2, 3, 4, 6, 7)), wrong_looks,
+                   Riddle(WHEEL, "h", (right,) * 5 + (wrong,) + (right,) * 2))
         self.gives(((0, 2, 4, 6), (1, 3, 5, 7)), wrong_looks, Riddle(WHEEL, "h", (right, wrong) * 4))
         self.gives(((),), wrong_looks, Riddle(WHEEL, "h", (right,) * 8))
         # A look that nothing fits by itself is in each wrong set.

@@ -170,9 +170,8 @@ def sure_places(riddle):
     return tuple([(place, some[0]) for place, some in enumerate(_goals(riddle)) if len(some) == 1])
 
 
-def _fit_at(riddle, number):
-    """The turn with this number of those that fit."""
-    near, far = _both_marks(riddle)
+def _fit_at(near, far, number):
+    """The turn with this number of those that fit these marks and far marks."""
     left = _by_mark(far)
     many = _count_orders(near)
     turn = []
@@ -189,7 +188,8 @@ def fit_at(riddle, number):
     _check_riddle(riddle)
     if not is_integer(number, 0, _count_fits(riddle) - 1):
         raise InvalidNumber(number)
-    return _fit_at(riddle, number)
+    near, far = _both_marks(riddle)
+    return _fit_at(near, far, number)
 
 
 def number_of_fit(riddle, turn):
@@ -207,8 +207,8 @@ def number_of_fit(riddle, turn):
     return number
 
 
-def _left_by(riddle, standing):
-    near = _both_marks(riddle)[0]
+def _left_by(near, standing):
+    """How many turns fit these marks behind a bare look with this standing ahead of it."""
     return _count_orders([mark + sign for mark, sign in zip(near, standing)])
 
 
@@ -217,7 +217,7 @@ def left_by(riddle, standing):
     _check_riddle(riddle)
     check_standing(standing, riddle.size)
     _check_possible(riddle)
-    return _left_by(riddle, standing)
+    return _left_by(_both_marks(riddle)[0], standing)
 
 
 def _check_standings(given, size):
@@ -233,7 +233,8 @@ def best_look(riddle, standings):
     _check_riddle(riddle)
     _check_standings(standings, riddle.size)
     _check_possible(riddle)
-    left = [_left_by(riddle, standing) for standing in standings]
+    near, _ = _both_marks(riddle)
+    left = [_left_by(near, standing) for standing in standings]
     return standings[left.index(min(left))]
 
 
@@ -307,5 +308,6 @@ def sure_inside(riddle, turn):
     many = _count_fits(riddle)
     if many > MOST_ASKED:
         raise TooMany(MOST_ASKED)
-    boards = [board_with(riddle, _fit_at(riddle, number)) for number in range(many)]
+    near, far = _both_marks(riddle)
+    boards = [board_with(riddle, _fit_at(near, far, number)) for number in range(many)]
     return all([whole_tower(board).comes_down(turn) for board in boards])

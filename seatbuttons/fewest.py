@@ -56,8 +56,8 @@ def first_row(board, turn):
     while many[left] > 0:
         rests = [(press, one_then(back, left)) for press, back in presses]
         # What is left behind the first press takes as many presses as the turn back from it.
-        press, left = [(press, rest) for press, rest in rests if many[rest] < many[left]][0]
-        row.append(press)
+        first, left = [(press, rest) for press, rest in rests if many[rest] < many[left]][0]
+        row.append(first)
     return _put_together(row)
 
 

@@ -175,6 +175,14 @@ class Deeds(Telling):
         self.tells(NoSlide(), bench.slide, 2, 2)
         self.tells(NoSlide(), bench.slide, 1, 1)
 
+    def test_arguments_by_name(self):
+        bench = Bench(standing="-abc", board=MIXED)
+        bench.press(number=1, name="a")
+        bench.do(row=(("a", 1),))
+        bench.slide(goal=0, place=1)
+        bench.play(deeds=(("press", "a", -1),))
+        self.assertEqual(shown(bench), ("ab-c", (("press", "a", 1), ("do", (("a", 1),)), ("slide", 1, 0), ("press", "a", -1)), 4))
+
     def test_many_changes(self):
         bench = Bench(whole(24), "a" * 23 + "-")
         row = (("a", 10 ** 30), ("b", -1)) * 1000

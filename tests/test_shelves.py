@@ -187,7 +187,7 @@ class Claims(Telling):
     def test_the_same_claim_again(self):
         shelf = a_shelf()
         for _ in range(3):
-            shelf.claim(("order", "q", 8))
+            shelf.claim(claim=("order", "q", 8))
         self.assertEqual(shelf.claims, (("order", "q", 8),) * 3)
         shelf.lift(1)
         self.assertEqual(shelf.claims, (("order", "q", 8),) * 2)

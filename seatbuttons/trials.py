@@ -17,7 +17,8 @@ class Trial:
 
     def __init__(self, tried_out, stays):
         self.tried_out = tried_out
-        self.stays = stays
+        # None in place of False: at the end of the rows nothing may be asked of it but whether it is None.
+        self.stays = True if stays else None
         self.held = None
 
     def __enter__(self):
@@ -26,6 +27,6 @@ class Trial:
 
     def __exit__(self, kind, value, trace):
         tried_out = self.tried_out
-        if kind is not None or not self.stays:
+        if kind is not None or self.stays is None:
             tried_out.state = self.held.state
         self.held = self.held.below

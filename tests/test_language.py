@@ -4,6 +4,8 @@ import ast
 import pathlib
 import unittest
 
+from tests.ends import ends_in, wrong_ends
+
 PACKAGE = pathlib.Path(__file__).resolve().parent.parent / "seatbuttons"
 
 BUILTINS = """len range enumerate zip min max sum abs sorted reversed int str bool bytes list tuple dict set
@@ -197,15 +199,11 @@ class Classes(unittest.TestCase):
 
     def test_ends_of_trials(self):
         """Behind the rows of a `with` nothing is called and nothing can be wrong: attributes are assigned."""
-        for holder, node in methods():
-            if node.name == "__exit__":
-                self.assertEqual([argument.arg for argument in node.args.args], ["self", "kind", "value", "trace"])
-                for part in [part for row in node.body for part in ast.walk(row)]:
-                    kinds = (ast.Assign, ast.If, ast.BoolOp, ast.UnaryOp, ast.Compare, ast.Attribute, ast.Name, ast.Constant)
-                    signs = (ast.expr_context, ast.boolop, ast.unaryop, ast.cmpop)
-                    self.assertIsInstance(part, kinds + signs, holder.name)
-                read = [part.id for part in ast.walk(node) if isinstance(part, ast.Name)]
-                self.assertFalse({"value", "trace"} & set(read))
+        trees = [tree for _, tree in parsed()]
+        self.assertTrue(ends_in(trees))
+        for title, node in ends_in(trees):
+            self.assertEqual([argument.arg for argument in node.args.args], ["self", "kind", "value", "trace"], title)
+        self.assertEqual(wrong_ends(trees), [])
 
     def test_nothing_is_returned_within_init(self):
         for holder, node in methods():
